@@ -1,0 +1,1 @@
+"""Shapekeep: page templates whose data never change the shape of a page."""
