@@ -4,11 +4,7 @@ from shapekeep.errors import InvalidText, InvalidValue
 from shapekeep.limits import MAX_ELEMENTS, MAX_LEVELS
 from shapekeep.names import is_name
 from shapekeep.reading import Reader
-
-NEWLINE = 10
-SPACE = 32
-PERCENT = 37
-TILDE = 126
+from shapekeep.signs import is_text
 
 
 def is_value(thing):
@@ -57,7 +53,7 @@ class Type:
         return f"Type('{self._writing}')"
 
 
-def _kind_of(thing):
+def kind_of(thing):
     """Returns the kind that a thing has as a value, or None; what lists and records contain does not matter."""
     if thing is None:
         return "absent"
@@ -66,7 +62,7 @@ def _kind_of(thing):
         return "flag"
     if isinstance(thing, int):
         return "number"
-    if isinstance(thing, str) and all([_is_allowed(ord(sign)) for sign in thing]):
+    if is_text(thing):
         return "text"
     if isinstance(thing, tuple) and len(thing) <= MAX_ELEMENTS:
         return "list"
@@ -75,14 +71,9 @@ def _kind_of(thing):
     return None
 
 
-def _is_allowed(code):
-    """Tells whether texts may have the character with this number."""
-    return code == NEWLINE or SPACE <= code <= TILDE and code != PERCENT
-
-
 def _is_value_within(thing, levels):
     """Tells whether any value is a value of at most this level."""
-    kind = _kind_of(thing)
+    kind = kind_of(thing)
     if kind == "list":
         parts = list(thing)
     elif kind == "record":
@@ -94,8 +85,8 @@ def _is_value_within(thing, levels):
 
 def _agree(one, other):
     """Tells whether two things that are known to be values are the same."""
-    kind = _kind_of(one)
-    if kind != _kind_of(other):
+    kind = kind_of(one)
+    if kind != kind_of(other):
         return False
     if kind == "list":
         return len(one) == len(other) and all([_agree(part, twin) for part, twin in zip(one, other)])
@@ -192,7 +183,7 @@ def _first_trouble(wanted, value, path):
     if wanted.kind == "optional":
         return None if value is None else _first_trouble(wanted.inner, value, path)
     form = "list" if wanted.kind == "keyed" else wanted.kind
-    if _kind_of(value) != form:
+    if kind_of(value) != form:
         return path
     if form == "list":
         return _trouble_in_list(wanted, value, path)
