@@ -8,6 +8,7 @@ from shapekeep.types import Type
 MAX_TERM_LEVELS = 8
 MAX_CHARACTERS = 60
 MAX_DIGITS = 15
+MAX_NUMBER = 10 ** 15 - 1
 # The functions, with the numbers of their arguments; None: one or more.
 FUNCTIONS = {"equal": 2, "less": 2, "not": 1, "both": 2, "either": 2, "sum": None, "joined": None, "size": 1, "has": 1,
              "or_else": 2}
@@ -49,7 +50,7 @@ def plain_term(value):
     if isinstance(value, bool):
         return Term("flag", "true" if value else "false", worth=value)
     if isinstance(value, int):
-        return Term("number", str(value), worth=value) if abs(value) < 10 ** MAX_DIGITS else None
+        return Term("number", str(value), worth=value) if abs(value) <= MAX_NUMBER else None
     if len(value) > MAX_CHARACTERS or not is_text(value) or [sign for sign in "\"{}\n" if sign in value]:
         return None
     return Term("text", f"\"{value}\"", worth=value)
