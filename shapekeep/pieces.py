@@ -87,10 +87,11 @@ class BodyReader:
     def turn(self, at):
         """Ends the first part of an if, and begins the second one."""
         level = self.levels[-1]
-        if level.tag is None or level.tag.kind != "if" or level.tag.parts:
+        tag = level.tag
+        if tag is None or tag.kind != "if" or tag.parts:
             raise InvalidBody(at)
-        level.tag.parts = (level.rest(),)
-        self.levels[-1] = Level(level.tag)
+        tag.parts = (level.rest(),)
+        self.levels[-1] = Level(tag)
 
     def leave(self, at):
         """Ends the part that began last."""

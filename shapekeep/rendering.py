@@ -41,15 +41,15 @@ def trouble_in(parameters, data):
 class Scene:
     """What pieces see: their template, the variables, and the part of the wrap around the template with its scene."""
 
-    def __init__(self, template, values, part=(), outside=None):
+    def __init__(self, template, variables, part=(), outside=None):
         self.template = template
-        self.values = values
+        self.variables = variables
         self.part = part
         self.outside = outside
 
     def with_value(self, name, value):
         """Returns the scene in which a variable has this value."""
-        return Scene(self.template, {**self.values, name: value}, self.part, self.outside)
+        return Scene(self.template, {**self.variables, name: value}, self.part, self.outside)
 
 
 class Writer:
@@ -65,7 +65,7 @@ class Writer:
             if piece.kind == "literal":
                 self.put(piece.text, piece, scene)
             elif piece.kind == "hole":
-                value = piece.expression(scene.values)
+                value = piece.expression(scene.variables)
                 self.put(escape(scene.template.context_at[piece.at], value), piece, scene)
             elif piece.kind == "slot":
                 self.write(scene.part, scene.outside)
@@ -81,11 +81,11 @@ class Writer:
         """Writes what an if, a for, a let, a use or a wrap has in it."""
         if piece.kind in ("use", "wrap"):
             template = self.library[piece.called]
-            values = {name: expression(scene.values) for name, expression in piece.pairs}
+            values = {name: expression(scene.variables) for name, expression in piece.pairs}
             part = piece.parts[0] if piece.parts else ()
             self.write(template.pieces, Scene(template, values, part, scene))
             return
-        value = piece.expression(scene.values)
+        value = piece.expression(scene.variables)
         if piece.kind == "if":
             self.write(piece.parts[0] if value else piece.parts[1], scene)
         elif piece.kind == "let":

@@ -15,7 +15,7 @@ class Size:
         self.slot_depth = 0
 
     def grow(self, levels, depth, nodes):
-        """Takes nodes, of which the innermost one is the one of this depth."""
+        """Takes so many nodes; they and the elements in them are nested so deeply."""
         self.levels = max(self.levels, levels)
         self.depth = max(self.depth, depth)
         self.nodes += nodes
@@ -55,5 +55,5 @@ def _call(size, levels, template, parts):
     """Takes a template within a scope, and the part of a wrap within an outer in the place of each slot."""
     size.grow(levels + template.levels, 1 + template.depth, template.nodes)
     for part in parts:
-        size.grow(0, 2 + template.slot_depth, template.slots)
+        size.grow(0, 0, template.slots)
         size.include(part, levels + template.slot_levels, 2 + template.slot_depth, template.slots)

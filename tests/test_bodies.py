@@ -276,6 +276,13 @@ class WriteTest(unittest.TestCase):
             for levels in (8, 9, 12, 100, 290):
                 thing = in_parts(levels, nodes)
                 self.assertIs(raised(InvalidTree, write_body, thing).value, thing)
+        behind = ()
+        for levels in range(9):
+            if levels < 8:
+                self.assertEqual(parse_body(write_body(behind)), behind)
+            else:
+                self.assertIs(raised(InvalidTree, write_body, behind).value, behind)
+            behind = (("if", "a", (), behind or (LITERAL,)),)
         for thing in (in_lists(12, LITERAL), in_lists(300, LITERAL), in_lists(300, ())):
             self.assertIs(raised(InvalidTree, write_body, thing).value, thing)
 

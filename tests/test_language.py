@@ -36,6 +36,9 @@ BARRED_NAMES = set("""register mro elements open input law version_info with_tra
     methodcaller os quit vars sys""".split())
 BARRED_WORDS = set("""typing typing_extensions enum Enum IntEnum StrEnum Flag IntFlag Generic Protocol ABC ABCMeta
     namedtuple NamedTuple TypedDict TYPE_CHECKING abstractmethod Meta""".split())
+BARRED_ATTRIBUTES = set("""items keys values pop update append clear extend insert remove reverse setdefault sort args
+    encode decode hex fromhex format format_map mro as_integer_ratio bit_count conjugate from_bytes is_integer
+    to_bytes real imag numerator denominator""".split())
 BARRED_NODES = (ast.AsyncFunctionDef, ast.AsyncFor, ast.AsyncWith, ast.Await, ast.Global, ast.Div, ast.Import, ast.MatMult)
 
 
@@ -167,6 +170,35 @@ class CodeTest(unittest.TestCase):
                     self.assertFalse(words & BARRED_WORDS, f"{path}:{token.start[0]}")
                 if token.type == tokenize.NAME and token.string == "type":
                     self.assertTrue(token.line[token.end[1]:].startswith("("), f"{path}:{token.start[0]}")
+
+    def test_attributes_that_are_given(self):
+        for path, _, tree in trees():
+            for node in nodes_of(tree, ast.Attribute):
+                if isinstance(node.ctx, ast.Store):
+                    place = f"{path}:{node.lineno}"
+                    self.assertNotIn(node.attr, BARRED_ATTRIBUTES | BARRED_NAMES & {"open", "input", "elements"}, place)
+                    self.assertIsInstance(node.value, ast.Name, place)
+
+    def test_exponents(self):
+        for path, _, tree in trees():
+            for node in nodes_of(tree, ast.BinOp):
+                if isinstance(node.op, ast.Pow):
+                    self.assertIsInstance(node.right, ast.Constant, f"{path}:{node.lineno}")
+
+    def test_classes_with_items(self):
+        for path, _, tree in trees():
+            for node in nodes_of(tree, ast.ClassDef):
+                methods = [one.name for one in node.body if isinstance(one, ast.FunctionDef)]
+                self.assertEqual("__getitem__" in methods, "__iter__" in methods, f"{path}:{node.lineno}")
+                self.assertEqual(len(methods), len(set(methods)), f"{path}:{node.lineno}")
+
+    def test_no_rings_of_imports(self):
+        imports = {path.stem: {one.module.removeprefix("shapekeep.") for one in nodes_of(tree, ast.ImportFrom)
+                               if one.module.startswith("shapekeep.")} for path, _, tree in trees()}
+        while imports:
+            ready = [name for name in imports if not imports[name] & set(imports)]
+            self.assertTrue(ready, imports)
+            imports = {name: imports[name] for name in imports if name not in ready}
 
     def test_generator_expressions_beside_own_equality(self):
         for path, _, tree in trees():

@@ -353,6 +353,8 @@ class PassTest(unittest.TestCase):
                    ((("let", "z", "a", (("scope", (), (("scope", (), (("outer", (("outer", (z,)),)),)),)),)),),) * 2,
                    ((("let", "z", "a", (("scope", (("z", "b"),), (("scope", (), (("outer", (z,)),)),)),)),),
                    (("scope", (("z", "b"),), (("scope", (), (("outer", (z,)),)),)),)),
+                   ((("scope", (("z", "b"),), (("outer", (("scope", (("z", "a"),), (z,)),)),)),),
+                    (("scope", (), (("outer", (("scope", (("z", "a"),), (z,)),)),)),)),
                    ((("scope", (), (("outer", (("let", "z", "a", (X,)),)),)),), (("scope", (), (("outer", (X,)),)),)),
                    ((("scope", (("z", "b"),), (("outer", (("scope", (("z", "a"),), (("outer", (z,)),)),)),)),),
                    (("scope", (), (("outer", (("scope", (), (("outer", (z,)),)),)),)),)))
