@@ -16,8 +16,16 @@ class Odd:
     """An object of no kind that the program knows."""
 
 
+class Same:
+    """An object that says of itself that it equals anything."""
+
+    def __eq__(self, other):
+        return True
+
+
 NO_PARAMETERS = [
-    None, True, 0, 1, b"", b"{a: text}", (), ("a",), [], ["a"], {}, {"a": "text"}, Odd(), str, " ", "text", "number?",
+    None, True, 0, 1, b"", b"{a: text}", (), ("a",), [], ["a"], {}, {"a": "text"}, Odd(), Same(), str, " ", "text",
+    "number?",
     "[text]", "{a: text}?", "[{a: text} by a]", "{}", "{a: text ", "{a:text}",
     "{b: text, a: text}", "{A: text}", "{a: text} ", "{a: text, a: text}", "a: text", "{a}", "-", "None",
     "{true: text}", "{false: text}", "{self: text}", "{a: text, self: flag}", "{false: text, true: number}",

@@ -67,6 +67,13 @@ class LevelsTest(unittest.TestCase):
         self.check(nested(30, "<data>{= 1}</data>"), 30)
         self.check(nested(30, "{use a}"), 30, "<data>{= 1}</data>x")
 
+    def test_what_opens_no_element(self):
+        page = "<p href=\"/~20/?a=~5b\" a=\"&quot;&amp;\">&lt;<data>[true,{(}\"a\":false{)}]</data></p>"
+        library = library_of(page)
+        library.define("b", "", nested(29, "{use a}"))
+        self.assertEqual(raised(TooManyLevels, library.define, "c", "", nested(30, "{use a}")).found, 31)
+        self.assertEqual(raised(TooManyLevels, library.define, "c", "", nested(1, page + "{use b}")).found, 31)
+
     def test_wraps(self):
         self.check("{wrap a}" + nested(20) + "{end}", 30, nested(10, "{slot}"))
         self.check("{wrap a}" + nested(21) + "{end}", 31, nested(10, "{slot}"))
