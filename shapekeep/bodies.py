@@ -4,6 +4,7 @@ from shapekeep.errors import InvalidTree
 from shapekeep.expressions import Expression, is_expression
 from shapekeep.names import is_name, is_variable
 from shapekeep.pieces import MAX_BODY_LEVELS, is_read, read_pieces
+from shapekeep.sequences import are_apart, are_pairs
 from shapekeep.signs import is_text
 
 # How many parts the nodes of each kind have, the word of the kind included.
@@ -50,15 +51,7 @@ def _are_nodes(thing, levels):
     """Tells whether any value is what parse_body returns for some body of at most so many levels."""
     if not isinstance(thing, tuple) or levels == 0:
         return False
-    behind_literal = False
-    for node in thing:
-        if not _is_node(node, levels):
-            return False
-        is_literal = node[0] == "literal"
-        if behind_literal and is_literal:
-            return False
-        behind_literal = is_literal
-    return True
+    return all([_is_node(node, levels) for node in thing]) and are_apart(thing, "literal")
 
 
 def _is_node(thing, levels):
@@ -77,7 +70,9 @@ def _is_node(thing, levels):
         return True
     if kind in ("for", "let"):
         return _is_bound(thing) and _are_nodes(thing[3], levels - 1)
-    return is_name(thing[1]) and _are_pairs(thing[2]) and (kind == "use" or _are_nodes(thing[3], levels - 1))
+    if not is_name(thing[1]) or not are_pairs(thing[2], is_name, is_expression):
+        return False
+    return kind == "use" or _are_nodes(thing[3], levels - 1)
 
 
 def _is_bound(node):
@@ -86,19 +81,6 @@ def _is_bound(node):
     if not is_variable(variable) or not is_expression(written):
         return False
     return kind == "let" or is_read(Expression.read(written))
-
-
-def _are_pairs(thing):
-    if not isinstance(thing, tuple):
-        return False
-    last = ""
-    for pair in thing:
-        if not isinstance(pair, tuple) or len(pair) != 2 or not is_name(pair[0]) or not is_expression(pair[1]):
-            return False
-        if pair[0] <= last:
-            return False
-        last = pair[0]
-    return True
 
 
 def _write_nodes(nodes):

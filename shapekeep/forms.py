@@ -4,6 +4,7 @@ from shapekeep.escaping import is_context
 from shapekeep.expressions import is_expression
 from shapekeep.limits import MAX_DEPTH
 from shapekeep.names import is_variable
+from shapekeep.sequences import are_pairs
 from shapekeep.signs import is_text
 
 # How many parts the nodes of each kind have, and how many plans are the last ones of them.
@@ -63,18 +64,5 @@ def _is_head(node):
     if kind == "if":
         return is_expression(node[1])
     if kind == "scope":
-        return _are_pairs(node[1])
+        return are_pairs(node[1], is_variable, is_expression)
     return kind == "outer" or is_variable(node[1]) and is_expression(node[2])
-
-
-def _are_pairs(thing):
-    if not isinstance(thing, tuple):
-        return False
-    last = ""
-    for pair in thing:
-        if not isinstance(pair, tuple) or len(pair) != 2 or not is_variable(pair[0]) or not is_expression(pair[1]):
-            return False
-        if pair[0] <= last:
-            return False
-        last = pair[0]
-    return True

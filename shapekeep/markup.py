@@ -7,6 +7,7 @@ from shapekeep.literals import read_literal, write_literal
 from shapekeep.names import is_name
 from shapekeep.places import ADDRESS, LITERAL, START, step
 from shapekeep.reading import Reader
+from shapekeep.sequences import are_apart
 from shapekeep.signs import is_text
 from shapekeep.types import is_value
 
@@ -41,15 +42,7 @@ def _are_nodes(thing, levels):
     """Tells whether any value is a tree with at most so many elements nested in each other."""
     if not isinstance(thing, tuple):
         return False
-    behind_text = False
-    for node in thing:
-        if not _is_node(node, levels):
-            return False
-        is_text_node = node[0] == "text"
-        if behind_text and is_text_node:
-            return False
-        behind_text = is_text_node
-    return True
+    return all([_is_node(node, levels) for node in thing]) and are_apart(thing, "text")
 
 
 def _is_node(thing, levels):

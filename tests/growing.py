@@ -56,16 +56,13 @@ class Grower:
         return tuple(nodes)
 
     def spoilt(self, text):
-        """Changes, leaves out, puts in or exchanges a character, or cuts the text off."""
-        at = self.random.randint(0, len(text))
-        kind = self.random.randint(0, 4)
-        sign = self.random.choice(self.random.choice([SIGNS, "<>&/\"=;?~[]{}:,-0aztfn", text or " "]))
-        if kind == 0:
-            return text[:at]
-        if kind == 1:
-            return text[:at] + text[at + 1:]
-        if kind == 2:
-            return text[:at] + sign + text[at:]
-        if kind == 3:
-            return text[:at] + sign + text[at + 1:]
-        return text[:at] + text[at + 1:at + 2] + text[at:at + 1] + text[at + 2:]
+        return spoilt(self.random, text, list(self.random.choice([SIGNS, "<>&/\"=;?~[]{}:,-0aztfn", text or " "])))
+
+
+def spoilt(random, text, words):
+    """Changes, leaves out, puts in or exchanges a character, or puts in one of the words, or cuts the text off."""
+    at = random.randint(0, len(text))
+    word = random.choice(words)
+    return random.choice([
+        text[:at], text[:at] + text[at + 1:], text[:at] + word + text[at:], text[:at] + word + text[at + 1:],
+        text[:at] + text[at + 1:at + 2] + text[at:at + 1] + text[at + 2:]])

@@ -3,6 +3,7 @@
 from shapekeep.library import Library
 from shapekeep.types import Type
 from tests.descent import SIGNS
+from tests.growing import spoilt
 
 
 class BodyGrower:
@@ -56,20 +57,8 @@ class BodyGrower:
         return "{" + head + "}" + self.body(levels - 1) + "{end}"
 
     def spoilt(self, text):
-        """Changes, leaves out, puts in or exchanges a character or a tag, or cuts the text off."""
-        at = self.random.randint(0, len(text))
-        sign = self.random.choice(["{", "}", " ", "=", "{end}", "{else}", "{if a}", "{", "*", "(", ",", "a", "\"",
-                "{slot}", "{for a in b}"])
-        kind = self.random.randint(0, 4)
-        if kind == 0:
-            return text[:at]
-        if kind == 1:
-            return text[:at] + text[at + 1:]
-        if kind == 2:
-            return text[:at] + sign + text[at:]
-        if kind == 3:
-            return text[:at] + sign + text[at + 1:]
-        return text[:at] + text[at + 1:at + 2] + text[at:at + 1] + text[at + 2:]
+        return spoilt(self.random, text, ["{", "}", " ", "=", "{end}", "{else}", "{if a}", "{", "*", "(", ",", "a", "\"",
+                                          "{slot}", "{for a in b}"])
 
 
 TYPES = {"t": "text", "n": "number", "f": "flag", "o": "text?", "l": "[text]", "k": "[{id: number, s: text?} by id]",
