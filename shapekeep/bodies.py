@@ -31,7 +31,7 @@ def _nodes_of(pieces):
 
 def _node_of(piece):
     if piece.kind == "literal":
-        return ("literal", piece.text)
+        return ("literal", piece.written)
     if piece.kind == "slot":
         return ("slot",)
     parts = tuple([_nodes_of(part) for part in piece.parts])

@@ -3,11 +3,15 @@
 from shapekeep.errors import InvalidTag, TypeTrouble
 
 
-def kinds_of_holes(pieces, parameters, templates):
-    """Returns a dict from the index of each hole to the kind of its type; all tags must fit."""
+def fit_tags(pieces, parameters, templates):
+    """Returns two dicts: from the index of each hole to the kind of its type, and of each for to the key of its list.
+
+    All tags must fit.
+    """
     kinds = {}
-    _fit(pieces, dict(fields_of(parameters)), templates, kinds)
-    return kinds
+    keys = {}
+    _fit(pieces, dict(fields_of(parameters)), templates, kinds, keys)
+    return kinds, keys
 
 
 def fields_of(parameters):
@@ -15,8 +19,8 @@ def fields_of(parameters):
     return () if parameters is None else parameters.fields
 
 
-def _fit(pieces, scope, templates, kinds):
-    """Goes through pieces for variables of the Types in the scope, and notes the kinds of the holes."""
+def _fit(pieces, scope, templates, kinds, keys):
+    """Goes through pieces for variables of the Types in the scope, and notes kinds of holes and keys of lists."""
     for piece in pieces:
         inner = scope
         if piece.kind in ("use", "wrap"):
@@ -27,10 +31,12 @@ def _fit(pieces, scope, templates, kinds):
                 raise InvalidTag(piece.at)
             if piece.kind == "hole":
                 kinds[piece.at] = found.kind
+            if piece.kind == "for":
+                keys[piece.at] = found.key
             if piece.called is not None:
                 inner = {**scope, piece.called: found.inner if piece.kind == "for" else found}
         for part in piece.parts:
-            _fit(part, inner, templates, kinds)
+            _fit(part, inner, templates, kinds, keys)
 
 
 def _type_in(piece, expression, scope):

@@ -35,7 +35,7 @@ class Course:
     def behind_signs(self, piece, place):
         """Returns the place to which literal characters lead."""
         deepest = 0
-        for sign, spot in zip(piece.text, piece.spots):
+        for sign, spot in zip(piece.written, piece.spots):
             place = step(place, sign)
             if place is None:
                 raise Misplaced(spot, "markup")

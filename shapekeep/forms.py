@@ -1,5 +1,6 @@
 """The form of plans, and their nodes with the plans in them."""
 
+from shapekeep.errors import InvalidPlan
 from shapekeep.escaping import is_context
 from shapekeep.expressions import is_expression
 from shapekeep.limits import MAX_DEPTH
@@ -12,9 +13,10 @@ SIZES = {"write": 2, "show": 3, "if": 4, "for": 4, "let": 4, "scope": 3, "outer"
 INNER = {"write": 0, "show": 0, "if": 2, "for": 1, "let": 1, "scope": 1, "outer": 1}
 
 
-def is_plan(thing):
-    """Tells whether any value has the form of a plan."""
-    return _are_nodes(thing, MAX_DEPTH, 0)
+def check_plan(thing):
+    """Looks whether any value has the form of a plan."""
+    if not _are_nodes(thing, MAX_DEPTH, 0):
+        raise InvalidPlan(thing)
 
 
 def inner_plans(node):

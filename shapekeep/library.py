@@ -1,8 +1,8 @@
 """Libraries: templates that are accepted, and that fit each other."""
 
-from shapekeep.errors import (InUse, InvalidName, InvalidText, MissingTemplate, NameTaken, Ring, TooDeep, TooManyLevels,
-                              TooManyNodes, TooManyTemplates)
-from shapekeep.fitting import kinds_of_holes
+from shapekeep.errors import (InUse, InvalidName, InvalidText, MissingTemplate, NameTaken, NotALibrary, Ring, TooDeep,
+                              TooManyLevels, TooManyNodes, TooManyTemplates)
+from shapekeep.fitting import fit_tags
 from shapekeep.following import Course
 from shapekeep.limits import MAX_DEPTH, MAX_NESTED, MAX_NODES, MAX_TEMPLATES
 from shapekeep.names import is_name, is_variable
@@ -15,7 +15,7 @@ from shapekeep.types import Type
 class Template:
     """A body that has been accepted, with its name and its parameters."""
 
-    def __init__(self, name, parameters, body, pieces, course):
+    def __init__(self, name, parameters, body, pieces, course, keys):
         within = all_pieces(pieces)
         self.name = name
         self.parameters = parameters
@@ -25,9 +25,10 @@ class Template:
         self.slots = len([piece for piece in within if piece.kind == "slot"])
         # What is needed to work with the template.
         self.wraps = tuple(sorted({piece.called for piece in within if piece.kind == "wrap"}))
-        self.pieces = pieces
+        self.content = pieces
         self.depths = course.depths
         self.context_at = dict(course.contexts)
+        self.loop_keys = keys
 
     def __eq__(self, other):
         return (isinstance(other, Template) and self.name == other.name and self.parameters == other.parameters
@@ -94,6 +95,10 @@ class Library:
         """Returns the plan of a template."""
         return self._plans[name]
 
+    def templates(self):
+        """Returns a dict of the templates, which stays as it is whatever becomes of the library."""
+        return dict(self._templates)
+
     def _without(self, name):
         """Returns a dict of the templates except this one."""
         return {other: self._templates[other] for other in self._templates if other != name}
@@ -103,11 +108,11 @@ class Library:
         templates = {**self._templates, template.name: template}
         sizes = dict(self._sizes)
         for name in changed:
-            sizes[name] = size_of(templates[name].pieces, templates[name].depths, sizes)
+            sizes[name] = size_of(templates[name].content, templates[name].depths, sizes)
         _check_sizes([sizes[name] for name in changed])
         plans = dict(self._plans)
         for name in changed:
-            plans[name] = Planner(templates, plans).plan(templates[name], templates[name].pieces, ())
+            plans[name] = Planner(templates, plans).plan(templates[name], templates[name].content, ())
         self.compilations += len(changed)
         self._keep(templates, sizes, plans)
 
@@ -141,6 +146,15 @@ class Library:
         return f"Library({len(self._templates)} templates)"
 
 
+def template_in(library, name):
+    """Returns the template of this name; both arguments may be any value."""
+    if not isinstance(library, Library):
+        raise NotALibrary(library)
+    if name not in library:
+        raise MissingTemplate(name)
+    return library[name]
+
+
 def _read_parameters(parameters):
     """Returns the record type of the parameters, or None if there are none."""
     if isinstance(parameters, str) and parameters == "":
@@ -154,9 +168,10 @@ def _read_parameters(parameters):
 def _made(name, parameters, body, templates):
     """Returns the template with this body, which may use these templates."""
     pieces = read_pieces(body)
-    course = Course(kinds_of_holes(pieces, parameters, templates))
+    kinds, keys = fit_tags(pieces, parameters, templates)
+    course = Course(kinds)
     course.whole(pieces, len(body))
-    return Template(name, parameters, body, pieces, course)
+    return Template(name, parameters, body, pieces, course, keys)
 
 
 def _all_used(uses, templates):

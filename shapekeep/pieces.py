@@ -17,12 +17,14 @@ class Piece:
         self.called = called
         self.expression = expression
         self.pairs = pairs
+        expressions = [part for _, part in pairs] if expression is None else [expression]
+        self.reads = tuple([names for part in expressions for names in part.reads])
         # Where the first literal character or the `{` stands, and the `{` of the end.
         self.at = None
         self.end = None
         self.parts = ()
         # The literal characters, and where each of them, or its `{`, stands.
-        self.text = ""
+        self.written = ""
         self.spots = ()
 
 
@@ -31,7 +33,7 @@ class Level:
 
     def __init__(self, tag):
         self.tag = tag
-        self.pieces = []
+        self.found = []
         self.signs = []
         self.spots = []
 
@@ -43,19 +45,19 @@ class Level:
     def push(self, piece):
         """Takes a tag, behind the literal characters in a row so far."""
         self.rest()
-        self.pieces.append(piece)
+        self.found.append(piece)
 
     def rest(self):
         """Ends the literal characters in a row so far, and returns all pieces."""
         if self.signs:
             piece = Piece("literal")
             piece.at = self.spots[0]
-            piece.text = "".join(self.signs)
+            piece.written = "".join(self.signs)
             piece.spots = tuple(self.spots)
-            self.pieces.append(piece)
+            self.found.append(piece)
             self.signs = []
             self.spots = []
-        return tuple(self.pieces)
+        return tuple(self.found)
 
 
 class BodyReader:
@@ -166,7 +168,7 @@ def _read_loop(reader):
     reader.needs(" in ")
     rows = read_expression(reader)
     if not is_read(rows):
-        raise InvalidText(reader.text)
+        raise InvalidText(reader.written)
     return Piece("for", called=variable, expression=rows)
 
 
@@ -188,7 +190,7 @@ def is_read(expression):
 def _read_variable(reader):
     word = reader.letters()
     if not is_variable(word):
-        raise InvalidText(reader.text)
+        raise InvalidText(reader.written)
     return word
 
 
@@ -200,7 +202,7 @@ def _read_call(reader, kind):
         name = _read_name(reader)
         reader.needs("=")
         if pairs and name <= pairs[-1][0]:
-            raise InvalidText(reader.text)
+            raise InvalidText(reader.written)
         pairs.append((name, read_expression(reader)))
     return Piece(kind, called=called, pairs=tuple(pairs))
 
@@ -208,5 +210,5 @@ def _read_call(reader, kind):
 def _read_name(reader):
     word = reader.letters()
     if not is_name(word):
-        raise InvalidText(reader.text)
+        raise InvalidText(reader.written)
     return word

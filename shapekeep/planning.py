@@ -23,7 +23,7 @@ class Planner:
     def node(self, template, piece, filling):
         """Returns the node of a piece."""
         if piece.kind == "literal":
-            return ("write", piece.text)
+            return ("write", piece.written)
         if piece.kind == "hole":
             return ("show", template.context_at[piece.at], str(piece.expression))
         if piece.kind == "use":
@@ -31,7 +31,7 @@ class Planner:
         parts = tuple([self.plan(template, part, filling) for part in piece.parts])
         if piece.kind == "wrap":
             inner = self.templates[piece.called]
-            return ("scope", pairs_of(piece), self.plan(inner, inner.pieces, (("outer", parts[0]),)))
+            return ("scope", pairs_of(piece), self.plan(inner, inner.content, (("outer", parts[0]),)))
         if piece.kind == "if":
             return ("if", str(piece.expression)) + parts
         return (piece.kind, piece.called, str(piece.expression)) + parts

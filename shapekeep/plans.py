@@ -1,56 +1,53 @@
 """Plans: what templates come to, and the passes that make them simpler."""
 
 from shapekeep.dropping import drop_unread
-from shapekeep.errors import InvalidPass, InvalidPlan, MissingTemplate, NotALibrary
+from shapekeep.errors import InvalidPass
 from shapekeep.folding import fold_node
-from shapekeep.forms import inner_plans, is_plan, with_plans
-from shapekeep.library import Library
+from shapekeep.forms import check_plan, inner_plans, with_plans
+from shapekeep.library import template_in
 
 PASSES = ("drop", "flat", "fold", "join")
 
 
 def plan_of(library, name):
     """Returns the plan of a template."""
-    if not isinstance(library, Library):
-        raise NotALibrary(library)
-    if name not in library:
-        raise MissingTemplate(name)
-    return library.plan(name)
+    template = template_in(library, name)
+    return library.plan(template.name)
 
 
 def count_nodes(plan):
     """Returns the number of nodes of a plan."""
-    _check_plan(plan)
+    check_plan(plan)
     return _count(plan)
 
 
 def fold(plan):
     """Returns the plan in which what has no variables is worked out."""
-    _check_plan(plan)
+    check_plan(plan)
     return _rebuilt(plan, fold_node)
 
 
 def join(plan):
     """Returns the plan in which writes in a row are one."""
-    _check_plan(plan)
+    check_plan(plan)
     return _joined(plan)
 
 
 def flat(plan):
     """Returns the plan without nodes around nothing, or around what does not need them."""
-    _check_plan(plan)
+    check_plan(plan)
     return _rebuilt(plan, _flat_node)
 
 
 def drop(plan):
     """Returns the plan without variables that are not read."""
-    _check_plan(plan)
+    check_plan(plan)
     return drop_unread(plan)
 
 
 def optimize(plan, *passes):
     """Returns the plan behind these passes."""
-    _check_plan(plan)
+    check_plan(plan)
     for index, name in enumerate(passes):
         if not isinstance(name, str) or name not in PASSES:
             raise InvalidPass(index)
@@ -61,11 +58,6 @@ def optimize(plan, *passes):
 
 
 FUNCTIONS = {"drop": drop, "flat": flat, "fold": fold, "join": join}
-
-
-def _check_plan(plan):
-    if not is_plan(plan):
-        raise InvalidPlan(plan)
 
 
 def _count(plan):

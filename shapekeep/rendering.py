@@ -1,14 +1,17 @@
 """The texts of templates with data, what wrote each piece of them, and their trees."""
 
-from shapekeep.errors import MissingTemplate, NotALibrary, Unfit
-from shapekeep.escaping import escape
-from shapekeep.library import Library
+from shapekeep.errors import Unfit
+from shapekeep.library import template_in
 from shapekeep.markup import parse
+from shapekeep.walking import Scene, Walk
 
 
 def render(library, name, data):
     """Returns the text of a template with data."""
-    return "".join([text for text, _, _ in origins(library, name, data)])
+    scene = first_scene(library, name, data)
+    walk = Walk(library.templates())
+    walk.enter(scene)
+    return walk.text_from(0)
 
 
 def render_tree(library, name, data):
@@ -18,78 +21,33 @@ def render_tree(library, name, data):
 
 def origins(library, name, data):
     """Returns triples of a text, a template and an index in its body; the texts together are the text of the page."""
-    if not isinstance(library, Library):
-        raise NotALibrary(library)
-    if name not in library:
-        raise MissingTemplate(name)
-    template = library[name]
-    trouble = trouble_in(template.parameters, data)
-    if trouble is not None:
-        raise Unfit(trouble)
-    writer = Writer(library)
-    writer.write(template.pieces, Scene(template, data))
-    return tuple(writer.triples)
+    scene = first_scene(library, name, data)
+    tracer = Tracer(library.templates())
+    tracer.enter(scene)
+    return tuple(tracer.texts)
 
 
-def trouble_in(parameters, data):
-    """Returns the path at which data are no values of the parameters, or None."""
-    if parameters is None:
-        return None if isinstance(data, dict) and len(data) == 0 else ()
-    return parameters.trouble(data)
-
-
-class Scene:
-    """What pieces see: their template, the variables, and the part of the wrap around the template with its scene."""
-
-    def __init__(self, template, variables, part=(), outside=None):
-        self.template = template
-        self.variables = variables
-        self.part = part
-        self.outside = outside
-
-    def with_value(self, name, value):
-        """Returns the scene in which a variable has this value."""
-        return Scene(self.template, {**self.variables, name: value}, self.part, self.outside)
-
-
-class Writer:
-    """Goes through pieces and keeps what they write."""
-
-    def __init__(self, library):
-        self.library = library
-        self.triples = []
-
-    def write(self, pieces, scene):
-        """Writes the pieces one after the other."""
-        for piece in pieces:
-            if piece.kind == "literal":
-                self.put(piece.text, piece, scene)
-            elif piece.kind == "hole":
-                value = piece.expression(scene.variables)
-                self.put(escape(scene.template.context_at[piece.at], value), piece, scene)
-            elif piece.kind == "slot":
-                self.write(scene.part, scene.outside)
-            else:
-                self.write_parts(piece, scene)
+class Tracer(Walk):
+    """Keeps with each text where it comes from."""
 
     def put(self, text, piece, scene):
-        """Keeps a text that a piece writes."""
+        """Keeps a text that a piece writes, with the template and the index of the piece."""
         if text:
-            self.triples.append((text, scene.template.name, piece.at))
+            self.texts.append((text, scene.template.name, piece.at))
 
-    def write_parts(self, piece, scene):
-        """Writes what an if, a for, a let, a use or a wrap has in it."""
-        if piece.kind in ("use", "wrap"):
-            template = self.library[piece.called]
-            values = {name: expression(scene.variables) for name, expression in piece.pairs}
-            part = piece.parts[0] if piece.parts else ()
-            self.write(template.pieces, Scene(template, values, part, scene))
-            return
-        value = piece.expression(scene.variables)
-        if piece.kind == "if":
-            self.write(piece.parts[0] if value else piece.parts[1], scene)
-        elif piece.kind == "let":
-            self.write(piece.parts[0], scene.with_value(piece.called, value))
-        else:
-            for row in value:
-                self.write(piece.parts[0], scene.with_value(piece.called, row))
+
+def first_scene(library, name, data):
+    """Returns the scene of a template with data, which must be there and fit."""
+    template = template_in(library, name)
+    check_fit(template.parameters, data)
+    return Scene(template, data)
+
+
+def check_fit(parameters, data):
+    """Looks whether data are a value of the type of parameters; there may be none."""
+    if parameters is not None:
+        trouble = parameters.trouble(data)
+    else:
+        trouble = None if isinstance(data, dict) and len(data) == 0 else ()
+    if trouble is not None:
+        raise Unfit(trouble)

@@ -86,13 +86,13 @@ def value_of(term, values):
 def _read_call(reader, word, levels):
     """Reads the arguments of a function, of which the bracket has been read, and its end."""
     if levels == 0:
-        raise InvalidText(reader.text)
+        raise InvalidText(reader.written)
     parts = [read_term(reader, levels)]
     while reader.skips(", "):
         parts.append(read_term(reader, levels))
     reader.needs(")")
     if FUNCTIONS[word] not in (None, len(parts)):
-        raise InvalidText(reader.text)
+        raise InvalidText(reader.written)
     return call_term(word, tuple(parts))
 
 
@@ -100,7 +100,7 @@ def _read_text(reader):
     """Reads the rest of a text, of which the first quote has been read."""
     found = plain_term(reader.until("\""))
     if found is None:
-        raise InvalidText(reader.text)
+        raise InvalidText(reader.written)
     return found
 
 
@@ -108,7 +108,7 @@ def _read_number(reader, sign):
     """Reads the digits of a number behind its sign."""
     digits = reader.digits()
     if not 1 <= len(digits) <= MAX_DIGITS or digits[0] == "0" and sign + digits != "0":
-        raise InvalidText(reader.text)
+        raise InvalidText(reader.written)
     return plain_term(int(sign + digits))
 
 
@@ -118,12 +118,12 @@ def _read_word(reader):
     if word in ("true", "false"):
         return plain_term(word == "true")
     if not is_variable(word):
-        raise InvalidText(reader.text)
+        raise InvalidText(reader.written)
     names = [word]
     while reader.skips("."):
         field = reader.letters()
         if not is_name(field):
-            raise InvalidText(reader.text)
+            raise InvalidText(reader.written)
         names.append(field)
     return Term("variable", ".".join(names), names=tuple(names))
 

@@ -18,7 +18,7 @@ def same(one, other):
         raise InvalidValue(one)
     if not is_value(other):
         raise InvalidValue(other)
-    return _agree(one, other)
+    return agree(one, other)
 
 
 class Type:
@@ -83,16 +83,13 @@ def _is_value_within(thing, levels):
     return levels > 0 and all([_is_value_within(part, levels - 1) for part in parts])
 
 
-def _agree(one, other):
-    """Tells whether two things that are known to be values are the same."""
-    kind = kind_of(one)
-    if kind != kind_of(other):
-        return False
-    if kind == "list":
-        return len(one) == len(other) and all([_agree(part, twin) for part, twin in zip(one, other)])
-    if kind == "record":
-        return sorted(one) == sorted(other) and all([_agree(one[name], other[name]) for name in one])
-    return one == other
+def agree(one, other):
+    """Tells whether two things that are known to be values, or tuples of values, are the same."""
+    if isinstance(one, tuple) and isinstance(other, tuple):
+        return len(one) == len(other) and all([agree(part, twin) for part, twin in zip(one, other)])
+    if isinstance(one, dict) and isinstance(other, dict):
+        return sorted(one) == sorted(other) and all([agree(one[name], other[name]) for name in one])
+    return isinstance(one, bool) == isinstance(other, bool) and one == other
 
 
 def _writing_of(kind, inner, key, fields):
@@ -135,7 +132,7 @@ def _read_required(reader, levels):
         return _read_record(reader, levels - 1)
     word = reader.letters()
     if word not in ("text", "number", "flag"):
-        raise InvalidText(reader.text)
+        raise InvalidText(reader.written)
     return Type(word)
 
 
@@ -148,7 +145,7 @@ def _read_list(reader, levels):
     key = reader.letters()
     reader.needs("]")
     if not _can_be_key(inner, key):
-        raise InvalidText(reader.text)
+        raise InvalidText(reader.written)
     return Type("keyed", inner=inner, key=key)
 
 
@@ -165,7 +162,7 @@ def _read_record(reader, levels):
         fields.append(_read_field(reader, levels))
     names = [name for name, part in fields]
     if names != sorted(set(names)):
-        raise InvalidText(reader.text)
+        raise InvalidText(reader.written)
     return Type("record", fields=tuple(fields))
 
 
@@ -173,7 +170,7 @@ def _read_field(reader, levels):
     """Reads a field of a record type, and returns its name and its type."""
     name = reader.letters()
     if not is_name(name):
-        raise InvalidText(reader.text)
+        raise InvalidText(reader.written)
     reader.needs(": ")
     return name, _read_part(reader, levels)
 

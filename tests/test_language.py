@@ -200,6 +200,50 @@ class CodeTest(unittest.TestCase):
             self.assertTrue(ready, imports)
             imports = {name: imports[name] for name in imports if name not in ready}
 
+    def test_generators(self):
+        found = {}
+        for path, _, tree in trees():
+            for node in nodes_of(tree, ast.FunctionDef):
+                if nodes_of(node, ast.Yield, ast.YieldFrom):
+                    found[node.name] = path
+                    self.assertFalse(nodes_of(node, ast.Try, ast.With), path)
+        self.assertEqual(sorted(found), ["chunks", "pieces"])
+        for path, _, tree in trees():
+            names = [node.name for node in nodes_of(tree, ast.FunctionDef, ast.ClassDef)]
+            self.assertFalse([name for name in names if name in found and found[name] != path], path)
+            for node in nodes_of(tree, ast.Attribute):
+                if node.attr in found:
+                    self.assertIsInstance(node.ctx, ast.Load, f"{path}:{node.lineno}")
+
+    def test_properties(self):
+        names = {node.name for _, _, tree in trees() for node in nodes_of(tree, ast.FunctionDef)
+                 if [ast.unparse(one) for one in node.decorator_list] == ["property"]}
+        for path, _, tree in trees():
+            for node in nodes_of(tree, ast.Attribute):
+                if isinstance(node.ctx, ast.Store):
+                    self.assertNotIn(node.attr, names, f"{path}:{node.lineno}")
+            for node in nodes_of(tree, ast.FunctionDef):
+                self.assertTrue(node.name not in names or node.decorator_list, f"{path}:{node.lineno}")
+
+    def test_errors_that_are_caught(self):
+        own = {node.name for _, _, tree in trees() for node in nodes_of(tree, ast.ClassDef)}
+        for path, _, tree in trees():
+            for node in nodes_of(tree, ast.ExceptHandler):
+                caught = node.type.elts if isinstance(node.type, ast.Tuple) else [node.type]
+                self.assertLessEqual({one.id for one in caught}, own | {"KeyError", "ZeroDivisionError"}, path)
+            for node in nodes_of(tree, ast.Try):
+                for row in node.finalbody:
+                    self.assertIsInstance(row, (ast.Pass, ast.Assign, ast.If), f"{path}:{row.lineno}")
+                    if isinstance(row, ast.If):
+                        self.assertRegex(ast.unparse(row.test), r"^[a-z_.]+ is (not )?None$")
+
+    def test_methods_that_are_read_off_a_class(self):
+        classes = {node.name for _, _, tree in trees() for node in nodes_of(tree, ast.ClassDef)}
+        for path, _, tree in trees():
+            for node in nodes_of(tree, ast.Attribute):
+                if isinstance(node.value, ast.Name) and node.value.id in classes:
+                    self.assertIn(ast.unparse(node), ("Expression.read", "Type.read"), f"{path}:{node.lineno}")
+
     def test_generator_expressions_beside_own_equality(self):
         for path, _, tree in trees():
             for node in nodes_of(tree, ast.Call):
