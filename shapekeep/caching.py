@@ -20,7 +20,7 @@ class Cache:
     def render(self, name, data):
         """Returns the text of a template with data."""
         scene = first_scene(self._library, name, data)
-        runner = Runner(self._library.templates(), self._memory)
+        runner = Runner(self._library.snapshot(), self._memory)
         runner.enter(scene)
         self.runs += runner.runs
         return runner.text_from(0)

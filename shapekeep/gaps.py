@@ -30,7 +30,7 @@ class Filler(Walk):
         """Takes the value of a late parameter."""
         self.came = {**self.came, name: value}
 
-    def page(self, scene):
+    def begin(self, scene):
         """Returns a list of the texts and gaps of a template."""
         self.texts = []
         self.enter(scene)

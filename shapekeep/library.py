@@ -95,7 +95,7 @@ class Library:
         """Returns the plan of a template."""
         return self._plans[name]
 
-    def templates(self):
+    def snapshot(self):
         """Returns a dict of the templates, which stays as it is whatever becomes of the library."""
         return dict(self._templates)
 

@@ -12,7 +12,7 @@ class Program:
     """The rows of a plan."""
 
     def __init__(self, plan, rows):
-        self.plan = plan
+        self.source = plan
         self.rows = rows
 
     def __call__(self, data):
@@ -30,7 +30,7 @@ class Program:
         return len(self.rows)
 
     def __eq__(self, other):
-        return isinstance(other, Program) and self.plan == other.plan
+        return isinstance(other, Program) and self.source == other.source
 
     def __repr__(self):
         return f"Program({len(self.rows)} rows)"

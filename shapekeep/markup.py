@@ -35,6 +35,11 @@ def parse(page):
             raise InvalidPage(index)
     if place != START:
         raise InvalidPage(len(page))
+    return read_page(page)
+
+
+def read_page(page):
+    """Returns the tree of a text that is known to be a page."""
     return _read_nodes(Reader(page))
 
 

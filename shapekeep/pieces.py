@@ -17,8 +17,9 @@ class Piece:
         self.called = called
         self.expression = expression
         self.pairs = pairs
-        expressions = [part for _, part in pairs] if expression is None else [expression]
-        self.reads = tuple([names for part in expressions for names in part.reads])
+        # All expressions of the tag, and what they read.
+        self.expressions = tuple([part for _, part in pairs]) if expression is None else (expression,)
+        self.reads = tuple([names for part in self.expressions for names in part.reads])
         # Where the first literal character or the `{` stands, and the `{` of the end.
         self.at = None
         self.end = None

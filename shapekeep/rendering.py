@@ -9,7 +9,7 @@ from shapekeep.walking import Scene, Walk
 def render(library, name, data):
     """Returns the text of a template with data."""
     scene = first_scene(library, name, data)
-    walk = Walk(library.templates())
+    walk = Walk(library.snapshot())
     walk.enter(scene)
     return walk.text_from(0)
 
@@ -22,7 +22,7 @@ def render_tree(library, name, data):
 def origins(library, name, data):
     """Returns triples of a text, a template and an index in its body; the texts together are the text of the page."""
     scene = first_scene(library, name, data)
-    tracer = Tracer(library.templates())
+    tracer = Tracer(library.snapshot())
     tracer.enter(scene)
     return tuple(tracer.texts)
 

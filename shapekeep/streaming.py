@@ -27,8 +27,8 @@ class Stream:
         _check_late(late, fields)
         check_fit(_record_of([called for called in fields if called not in late], fields), data)
         self._late = {called: fields[called] for called in late}
-        self._filler = Filler(library.templates())
-        self._content = self._filler.page(Scene(template, data))
+        self._filler = Filler(library.snapshot())
+        self._content = self._filler.begin(Scene(template, data))
         self.waiting = tuple(sorted(late))
         self.parts = parts_of(self._content)
 

@@ -244,6 +244,19 @@ class CodeTest(unittest.TestCase):
                 if isinstance(node.value, ast.Name) and node.value.id in classes:
                     self.assertIn(ast.unparse(node), ("Expression.read", "Type.read"), f"{path}:{node.lineno}")
 
+    def test_names_of_methods_and_attributes(self):
+        methods, attributes = set(), set()
+        for _, _, tree in trees():
+            for node in nodes_of(tree, ast.ClassDef):
+                methods |= {one.name for one in node.body if isinstance(one, ast.FunctionDef)}
+            attributes |= {node.attr for node in nodes_of(tree, ast.Attribute) if isinstance(node.ctx, ast.Store)}
+        self.assertFalse(methods & attributes)
+
+    def test_stars_in_calls(self):
+        for path, _, tree in trees():
+            for node in nodes_of(tree, ast.Starred):
+                self.assertIsInstance(node.value, (ast.Name, ast.Tuple), f"{path}:{node.lineno}")
+
     def test_generator_expressions_beside_own_equality(self):
         for path, _, tree in trees():
             for node in nodes_of(tree, ast.Call):

@@ -1,0 +1,115 @@
+"""Runs of the templates of a live page, in which what has been worked out before is taken over."""
+
+from shapekeep.types import agree
+from shapekeep.walking import marks_of, ways_in, worth_of
+
+
+class Entry:
+    """What a tag has done in a run: the values that it has read, what it has worked out, and where it has written."""
+
+    def __init__(self, seen, worth, start):
+        self.seen = seen
+        self.worth = worth
+        self.start = start
+        self.end = start
+        # From the elements of its loop, or None if it has no loop, to the entries of the tags in it by their indexes.
+        self.inner = {}
+
+
+class Run:
+    """A run of a template, beside the entries of the run before, if there was one."""
+
+    def __init__(self, templates, scene, before):
+        self.templates = templates
+        self.texts = []
+        self.length = 0
+        # The evaluations that are done, and the outermost ones of them, with the entries of the run before.
+        self.done = []
+        self.outermost = []
+        self.within = False
+        self.entries = self.go(scene.template.content, scene, before)
+        self.page = "".join(self.texts)
+
+    def go(self, pieces, scene, before):
+        """Goes through pieces, and returns their entries by their indexes."""
+        entries = {}
+        for piece in pieces:
+            if piece.kind == "literal":
+                self.put(piece.written)
+            else:
+                entries[piece.at] = self.visit(piece, scene, before.get(piece.at))
+        return entries
+
+    def visit(self, piece, scene, before):
+        """Goes through a tag and all that is in it, and returns its entry."""
+        seen = _seen_at(piece, scene)
+        known = before is not None and agree(before.seen, seen)
+        # The elements of a list are looked up each time, as their keys alone do not tell what else is in them.
+        worth = before.worth if known and piece.kind != "for" else worth_of(piece, scene)
+        entry = Entry(seen, worth, self.length)
+        if known or not piece.expressions:
+            self.write(piece, scene, before, entry)
+            return entry
+        self.done.append((scene.template.name, piece.at))
+        if self.within:
+            self.write(piece, scene, before, entry)
+            return entry
+        self.within = True
+        self.write(piece, scene, before, entry)
+        self.within = False
+        self.outermost.append((before, entry))
+        return entry
+
+    def write(self, piece, scene, before, entry):
+        """Writes what a tag writes, with its parts."""
+        if piece.kind == "hole":
+            self.put(entry.worth)
+        known = {} if before is None else before.inner
+        for mark, pieces, inner in ways_in(piece, scene, entry.worth, self.templates):
+            entry.inner[mark] = self.go(pieces, inner, known.get(mark, {}))
+        entry.end = self.length
+
+    def put(self, text):
+        """Writes a text."""
+        self.texts.append(text)
+        self.length += len(text)
+
+    def patches(self, old):
+        """Returns the patches that make this page out of the old one, that of the run before."""
+        return tuple([patch for before, entry in self.outermost
+                      for patch in least_patches(before.start, old[before.start:before.end],
+                                                 self.page[entry.start:entry.end])])
+
+
+def least_patches(start, old, new):
+    """Returns the least patch that makes the new text out of the old one, which stands at an index, or no patch."""
+    if old == new:
+        return ()
+    ahead = _common_length(old, new)
+    old, new = old[ahead:], new[ahead:]
+    behind = _common_length(old[::-1], new[::-1])
+    return ((start + ahead, start + ahead + len(old) - behind, new[:len(new) - behind]),)
+
+
+def _common_length(one, other):
+    """Returns the length of the longest common beginning of two texts."""
+    length = 0
+    for sign, twin in zip(one, other):
+        if sign != twin:
+            break
+        length += 1
+    return length
+
+
+def _seen_at(piece, scene):
+    """Returns the values of the reads at a tag; of the list of a for, just what tells its elements apart."""
+    found = tuple([_value_of(names, scene.variables) for names in piece.reads])
+    return marks_of(found[0], scene.template.loop_keys[piece.at]) if piece.kind == "for" else found
+
+
+def _value_of(names, variables):
+    """Returns the value that the names of a read lead to."""
+    found = variables
+    for name in names:
+        found = found[name]
+    return found
