@@ -42,6 +42,10 @@ class Memory:
         # The texts, by the number of the template and the literal of the values.
         self.written = {}
 
+    def keep(self, known, text):
+        """Takes what has been run."""
+        self.written[known] = text
+
     def number_of(self, template, used):
         """Returns the number of a template that uses and wraps those with these numbers."""
         known = (template.name, str(template.parameters), template.body, used)
@@ -71,7 +75,7 @@ class Runner(Walk):
             start = len(self.texts)
             self.runs += 1
             super().enter(scene)
-            self.memory.written[known] = self.text_from(start)
+            self.memory.keep(known, self.text_from(start))
         else:
             self.texts.append(self.memory.written[known])
 

@@ -14,7 +14,7 @@ def templates_of(library):
     listed = []
     left = library.names
     while left:
-        name = min([name for name in left if not [used for used in library[name].uses if used in left]])
+        name = min([other for other in left if not [used for used in library[other].uses if used in left]])
         listed.append(_written(library[name]))
         left = tuple([other for other in left if other != name])
     return tuple(listed)

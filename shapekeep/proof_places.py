@@ -5,7 +5,7 @@ this character. The others are tuples: words of which one comes, or what else ca
 """
 
 from shapekeep.limits import MAX_ELEMENTS, MAX_LEVELS, MAX_NESTED
-from shapekeep.proof_signs import CODES, DIGITS, LETTERS, NAME_LENGTH, PLAIN, SIGNS
+from shapekeep.proof_signs import CODES, DIGITS, LETTERS, NAME_LENGTH, PLAIN, is_sign
 
 ROOT = (("nodes", "", 0),)
 PLACES_OF_TEXTS = {"nodes": "text", "attribute": "attribute", "part": "part", "query": "query"}
@@ -64,7 +64,7 @@ def _in_nodes(first, rest, sign):
         return (("markup",) + first[1:],) + rest
     if sign == "&":
         return _one_of(("amp;", "lt;"), (first,) + rest)
-    return (first,) + rest if sign in SIGNS else None
+    return (first,) + rest if is_sign(sign) else None
 
 
 def _in_markup(first, rest, sign):
@@ -122,7 +122,7 @@ def _in_attribute(first, rest, sign):
         return rest
     if sign == "&":
         return _one_of(("amp;", "lt;", "quot;"), (first,) + rest)
-    return (first,) + rest if sign != "<" and sign in SIGNS else None
+    return (first,) + rest if sign != "<" and is_sign(sign) else None
 
 
 def _in_address(first, rest, sign):
@@ -176,7 +176,7 @@ def _in_string(first, rest, sign):
         return rest
     if sign == "\\":
         return _one_of(("\"", "\\", "n", "l"), (first,) + rest)
-    return (first,) + rest if sign not in ("<", "\n") and sign in SIGNS else None
+    return (first,) + rest if sign not in ("<", "\n") and is_sign(sign) else None
 
 
 def _with_element(many, levels, rest):

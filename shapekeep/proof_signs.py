@@ -3,11 +3,10 @@
 LETTERS = "abcdefghijklmnopqrstuvwxyz"
 DIGITS = "0123456789"
 # The signs that stand for themselves in addresses, those that do not, and the codes of the latter in the same order.
-PLAIN = LETTERS + "ABCDEFGHIJKLMNOPQRSTUVWXYZ" + DIGITS + "-_."
+PLAIN = "abcdefghijklmnopqrstuvwxyzABCDEFGHIJKLMNOPQRSTUVWXYZ0123456789-_."
 CODED = "\n !\"#$&'()*+,/:;<=>?@[\\]^`{|}~"
 CODES = ("0a", "20", "21", "22", "23", "24", "26", "27", "28", "29", "2a", "2b", "2c", "2f", "3a", "3b", "3c", "3d",
          "3e", "3f", "40", "5b", "5c", "5d", "5e", "60", "7b", "7c", "7d", "7e")
-SIGNS = PLAIN + CODED
 NAME_LENGTH = 12
 
 
@@ -45,6 +44,14 @@ class Scan:
             self.at += 1
         return self.given[start:self.at]
 
+    def until(self, sign):
+        """Returns all up to a sign that must follow, and goes behind it."""
+        end = self.given.find(sign, self.at)
+        demand(end >= 0)
+        start = self.at
+        self.at = end + 1
+        return self.given[start:end]
+
     def take_name(self):
         """Returns the name that must come next, and goes behind it."""
         found = self.row(LETTERS)
@@ -68,9 +75,14 @@ def demand(condition):
         raise Doubt()
 
 
+def is_sign(sign):
+    """Tells whether texts may have this character."""
+    return sign in PLAIN or sign in CODED
+
+
 def is_text(thing):
     """Tells whether any value is a text of values."""
-    return isinstance(thing, str) and all([sign in SIGNS for sign in thing])
+    return isinstance(thing, str) and all([is_sign(sign) for sign in thing])
 
 
 def is_name(thing):

@@ -3,31 +3,31 @@
 A term is a tuple: ("variable", names), ("plain", T, value), or the word of a function and a tuple of its arguments.
 """
 
-from shapekeep.proof_signs import DIGITS, LETTERS, PLAIN, demand, is_variable
+from shapekeep.proof_signs import DIGITS, LETTERS, demand, is_text, is_variable
 from shapekeep.proof_values import PLAIN_TYPES
 
 MAX_LEVEL = 8
 MAX_QUOTED = 60
 MAX_DIGITS = 15
-QUOTED = PLAIN + " !#$&'()*+,/:;<=>?@[\\]^`|~"
+# What stands in quotes has none of these signs.
+NOT_QUOTED = "\"{}\n"
 TEXT = ("text",)
 NUMBER = ("number",)
 FLAG = ("flag",)
 # How many arguments the functions have; 0: one or more.
 MANY = {"equal": 2, "less": 2, "not": 1, "both": 2, "either": 2, "sum": 0, "joined": 0, "size": 1, "has": 1,
         "or_else": 2}
-# The types of arguments and of results, where all arguments have the same type.
-ALIKE = {"less": (NUMBER, FLAG), "sum": (NUMBER, NUMBER), "not": (FLAG, FLAG), "both": (FLAG, FLAG),
-         "either": (FLAG, FLAG)}
+# The kinds of the types of arguments and of results, where all arguments have the same type.
+ALIKE = {"less": ("number", "flag"), "sum": ("number", "number"), "not": ("flag", "flag"), "both": ("flag", "flag"),
+         "either": ("flag", "flag")}
 
 
 def term_at(scan, levels=MAX_LEVEL):
     """Reads an expression of at most so many levels that comes next."""
     demand(levels > 0)
     if scan.has("\""):
-        found = scan.row(QUOTED)
-        scan.want("\"")
-        demand(len(found) <= MAX_QUOTED)
+        found = scan.until("\"")
+        demand(len(found) <= MAX_QUOTED and is_text(found) and not [sign for sign in NOT_QUOTED if sign in found])
         return ("plain", TEXT, found)
     if scan.next_is("-" + DIGITS):
         return ("plain", NUMBER, _number_at(scan))
@@ -73,8 +73,8 @@ def type_of_term(term, scope):
     types = [type_of_term(argument, scope) for argument in term[1]]
     if word in ALIKE:
         wanted, found = ALIKE[word]
-        demand(all([one == wanted for one in types]))
-        return found
+        demand(all([one == (wanted,) for one in types]))
+        return (found,)
     if word == "joined":
         demand(all([one in (TEXT, NUMBER) for one in types]))
         return TEXT

@@ -74,23 +74,23 @@ def read_type(text):
 
 def _type_at(scan, levels):
     """Reads a type that comes next."""
-    found = _plain_type_at(scan, levels)
+    found = _required_type_at(scan, levels)
     return ("optional", found) if scan.has("?") else found
 
 
-def _plain_type_at(scan, levels):
+def _required_type_at(scan, levels):
     """Reads a type that comes next, up to its question mark."""
     for word in PLAIN_TYPES:
         if scan.has(word):
             return (word,)
     demand(levels > 0)
     if scan.has("["):
-        return _list_type_at(scan, levels - 1)
+        return _type_of_list_at(scan, levels - 1)
     scan.want("{")
-    return _record_type_at(scan, levels - 1)
+    return _type_of_record_at(scan, levels - 1)
 
 
-def _list_type_at(scan, levels):
+def _type_of_list_at(scan, levels):
     """Reads a list type behind its bracket."""
     inner = _type_at(scan, levels)
     key = None
@@ -101,7 +101,7 @@ def _list_type_at(scan, levels):
     return ("list", inner, key)
 
 
-def _record_type_at(scan, levels):
+def _type_of_record_at(scan, levels):
     """Reads a record type behind its brace."""
     fields = []
     while not fields or scan.has(", "):

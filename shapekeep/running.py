@@ -42,11 +42,12 @@ class Run:
 
     def visit(self, piece, scene, before):
         """Goes through a tag and all that is in it, and returns its entry."""
-        seen = _seen_at(piece, scene)
+        found = tuple([_value_of(names, scene.variables) for names in piece.reads])
+        seen = found
+        if piece.kind == "for":
+            seen = marks_of(found[0], scene.template.loop_keys[piece.at])
         known = before is not None and agree(before.seen, seen)
-        # The elements of a list are looked up each time, as their keys alone do not tell what else is in them.
-        worth = before.worth if known and piece.kind != "for" else worth_of(piece, scene)
-        entry = Entry(seen, worth, self.length)
+        entry = Entry(seen, _worth_again(piece, before, found) if known else worth_of(piece, scene), self.length)
         if known or not piece.expressions:
             self.write(piece, scene, before, entry)
             return entry
@@ -101,10 +102,10 @@ def _common_length(one, other):
     return length
 
 
-def _seen_at(piece, scene):
-    """Returns the values of the reads at a tag; of the list of a for, just what tells its elements apart."""
-    found = tuple([_value_of(names, scene.variables) for names in piece.reads])
-    return marks_of(found[0], scene.template.loop_keys[piece.at]) if piece.kind == "for" else found
+def _worth_again(piece, before, found):
+    """Returns what a tag of which no read has changed worked out before; the list of a for is that which was found."""
+    # Its keys are the same, but they do not tell what else is in its elements.
+    return found[0] if piece.kind == "for" else before.worth
 
 
 def _value_of(names, variables):

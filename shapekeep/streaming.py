@@ -25,7 +25,7 @@ class Stream:
         template = template_in(library, name)
         fields = dict(fields_of(template.parameters))
         _check_late(late, fields)
-        check_fit(_record_of([called for called in fields if called not in late], fields), data)
+        check_fit(_type_of([called for called in fields if called not in late], fields), data)
         self._late = {called: fields[called] for called in late}
         self._filler = Filler(library.snapshot())
         self._content = self._filler.begin(Scene(template, data))
@@ -79,6 +79,6 @@ def _check_late(late, fields):
             raise NotLate(called)
 
 
-def _record_of(names, fields):
+def _type_of(names, fields):
     """Returns the record type of the fields of these names, or None if there are none."""
     return Type("record", fields=tuple([(name, fields[name]) for name in names])) if names else None
