@@ -50,7 +50,8 @@ def after(data, action):
     word, path, *rest = action
     if word == "set":
         return put_in_place(data, path, rest[0])
-    rows = dict(places_in(data))[path] if isinstance(data, tuple) else next(one for at, one in places_in(data) if at == path)
+    rows = dict(places_in(data))[path] if isinstance(data, tuple) else next(one for at, one in places_in(data)
+            if at == path)
     rows = list(rows)
     if word == "insert":
         rows.insert(*rest)

@@ -125,13 +125,15 @@ FORMS = {"accepted": accepted, "misplaced": misplaced, "page": page, "shape": sh
 
 def others(value):
     """Returns values that stand in the place of one: of other kinds, and near ones."""
-    found = [None, True, False, 0, 1, "", "a", "text", (), {}, [], Odd(), Same(), Bad(), b"a", {"a"}, (None,), ((),), str]
+    found = [None, True, False, 0, 1, "", "a", "text", (), {}, [], Odd(), Same(), Bad(), b"a", {"a"}, (None,), ((),),
+            str]
     if isinstance(value, str):
         found += [value + "x", value[:-1], "x" + value, value.upper(), (value,), [value], value.encode(), value + "<p>"]
     elif isinstance(value, int) and not isinstance(value, bool):
         found += [value + 1, value - 1, -value, str(value), (value,), bool(value)]
     elif isinstance(value, tuple):
-        found += [list(value), value + (None,), value + value, value[:-1], value[1:], value[::-1], (value,), "".join(map(str, value))]
+        found += [list(value), value + (None,), value + value, value[:-1], value[1:], value[::-1], (value,),
+                "".join(map(str, value))]
     elif isinstance(value, dict):
         found += [{**value, "z": 1}, tuple(value.items()), {key: value[key] for key in list(value)[1:]}]
     return found

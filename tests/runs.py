@@ -28,7 +28,7 @@ class Evaluation:
 
 
 class Scope:
-    """The variables that tags see, with their types, those of them that come late, and what the slots are filled with."""
+    """The variables that tags see, with their types, those that come late, and what fills the slots."""
 
     def __init__(self, values, types, late, filling):
         self.values = values

@@ -28,7 +28,8 @@ class Same:
         return True
 
 
-ODD = [None, True, False, 0, 1, -1, "", "a", "set", (), ("a",), [], ["l"], {}, {"a": 1}, {"a"}, b"l", Odd(), Same(), str,
+ODD = [None, True, False, 0, 1, -1, "", "a", "set", (), ("a",), [], ["l"], {}, {"a": 1}, {"a"}, b"l", Odd(), Same(),
+        str,
        ((), {}), "l" * 13]
 
 
@@ -85,7 +86,8 @@ class ActionsTest(unittest.TestCase):
         self.check(("insert", ("k",), 1, row), ("k",), (self.page.data["k"][0], row, self.page.data["k"][1]))
 
     def test_delete(self):
-        for path, index, there in ((("l",), 1, ("a", "c")), (("l",), 1, ("a",)), (("l",), 0, ()), (("k", 0, "m"), 0, ("q",))):
+        for path, index, there in ((("l",), 1, ("a", "c")), (("l",), 1, ("a",)), (("l",), 0, ()), (("k", 0, "m"), 0,
+                ("q",))):
             self.check(("delete", path, index), path, there)
         self.check(("delete", ("k",), 0), ("k",), (DATA["k"][1],))
 
@@ -137,7 +139,8 @@ class ErrorsTest(unittest.TestCase):
 
     def fails(self, error, field, action):
         """Looks whether an action, by do and by its method, raises an error with this field."""
-        methods = {"set": self.page.change, "insert": self.page.put_in, "delete": self.page.take_out, "move": self.page.move}
+        methods = {"set": self.page.change, "insert": self.page.put_in, "delete": self.page.take_out,
+                "move": self.page.move}
         for call in (lambda: self.page.do(action), lambda: methods[action[0]](*action[1:])):
             found = raised(error, call)
             self.assertEqual(repr(list(vars(found).values())), repr([field]))
@@ -152,8 +155,10 @@ class ErrorsTest(unittest.TestCase):
             self.assertIsNone(raised(InvalidAction, self.page.do, thing).index)
 
     def test_paths(self):
-        paths = [None, True, 0, "n", "", [], ["n"], {}, Odd(), Same(), ("x",), ("N",), (0,), (None,), (True,), ("n", "a"),
-                 ("n", 0), ("l", "0"), ("l", 3), ("l", -1), ("l", True), ("l", False), ("l", 0, 0), ("l", 0, "a"), ("o", 0),
+        paths = [None, True, 0, "n", "", [], ["n"], {}, Odd(), Same(), ("x",), ("N",), (0,), (None,), (True,), ("n",
+                "a"),
+                 ("n", 0), ("l", "0"), ("l", 3), ("l", -1), ("l", True), ("l", False), ("l", 0, 0), ("l", 0, "a"),
+                         ("o", 0),
                  ("o", "a"), ("k", 0), ("r", "b"), ("r", 0), ("r", "a", 0), ("r", "f", "a"), (("l",),), (["l"],),
                  ({},), (Odd(),), (Same(),), ("k", 2), ("k", 0, "id", 0), ("k", 0, 0), ("k", "id"), ("l", None),
                  ("l", "a"), ("l", (0,)), ("l", Same()), ("r", Same()), ("k", 0, "t", "a"), ("k", 0, "t", 0)]
@@ -166,7 +171,8 @@ class ErrorsTest(unittest.TestCase):
 
     def test_paths_to_what_is_no_list(self):
         self.fails(NoSuchPath, (), ("set", (), DATA))
-        for path in ((), ("n",), ("r",), ("r", "a"), ("r", "f"), ("o",), ("l", 0), ("k", 0), ("k", 0, "t"), ("k", 1, "t")):
+        for path in ((), ("n",), ("r",), ("r", "a"), ("r", "f"), ("o",), ("l", 0), ("k", 0), ("k", 0, "t"), ("k", 1,
+                "t")):
             self.fails(NoSuchPath, path, ("insert", path, 0, 5))
             self.fails(NoSuchPath, path, ("delete", path, 0))
             self.fails(NoSuchPath, path, ("move", path, 0, 0))
@@ -189,15 +195,19 @@ class ErrorsTest(unittest.TestCase):
         row = {"id": 3, "m": (), "t": None}
         for action, path in (
                 (("set", ("n",), "5"), ("n",)), (("set", ("n",), True), ("n",)), (("set", ("n",), None), ("n",)),
-                (("set", ("r", "f"), 1), ("r", "f")), (("set", ("r",), {"a": ""}), ("r", "f")), (("set", ("l",), []), ("l",)),
+                (("set", ("r", "f"), 1), ("r", "f")), (("set", ("r",), {"a": ""}), ("r", "f")), (("set", ("l",), []),
+                        ("l",)),
                 (("set", ("r",), {"a": "", "f": True, "g": 1}), ("r",)), (("set", ("l", 1), ("b",)), ("l", 1)),
                 (("set", ("k", 1, "id"), 1), ("k", 1)), (("set", ("k", 0, "id"), 2), ("k", 1)),
                 (("set", ("k", 0, "id"), True), ("k", 0, "id")), (("set", ("k", 0), row["m"]), ("k", 0)),
                 (("set", ("o",), (1, None)), ("o", 1)), (("set", ("o",), (1, True)), ("o", 1)),
                 (("insert", ("l",), 1, 5), ("l", 1)), (("insert", ("l",), 3, None), ("l", 3)),
-                (("insert", ("k",), 0, {**row, "id": 1}), ("k", 1)), (("insert", ("k",), 2, {**row, "id": 1}), ("k", 2)),
-                (("insert", ("k",), 1, {**row, "m": ("a", 5)}), ("k", 1, "m", 1)), (("insert", ("k",), 0, row["m"]), ("k", 0)),
-                (("set", ("n",), Odd()), ("n",)), (("set", ("l", 0), Same()), ("l", 0)), (("set", ("l", 0), b"a"), ("l", 0))):
+                (("insert", ("k",), 0, {**row, "id": 1}), ("k", 1)), (("insert", ("k",), 2, {**row, "id": 1}),
+                        ("k", 2)),
+                (("insert", ("k",), 1, {**row, "m": ("a", 5)}), ("k", 1, "m", 1)), (("insert", ("k",), 0, row["m"]),
+                        ("k", 0)),
+                (("set", ("n",), Odd()), ("n",)), (("set", ("l", 0), Same()), ("l", 0)), (("set", ("l", 0), b"a"),
+                        ("l", 0))):
             self.fails(Unfit, path, action)
 
     def test_full_histories(self):
@@ -386,8 +396,10 @@ class DoAllTest(unittest.TestCase):
 
         good = ("set", ("n",), 1)
         self.assertEqual(self.failing(NoSuchPath, (good, ("set", ("x",), 1), good), observer).path, ("x",))
-        self.assertEqual(self.failing(Unfit, (good, good, ("set", ("n",), ""), ("set", ("x",), 1)), observer).path, ("n",))
-        self.assertEqual(self.failing(NoSuchPath, (("delete", ("l",), 2), ("delete", ("l",), 2)), observer).path, ("l", 2))
+        self.assertEqual(self.failing(Unfit, (good, good, ("set", ("n",), ""), ("set", ("x",), 1)), observer).path,
+                ("n",))
+        self.assertEqual(self.failing(NoSuchPath, (("delete", ("l",), 2), ("delete", ("l",), 2)), observer).path, ("l",
+                2))
         full = (("set", ("l",), ("x",) * 60), ("insert", ("l",), 0, "y"))
         self.assertEqual(self.failing(TooManyElements, full, observer).found, 61)
         self.assertEqual(self.failing(Unfit, (("set", ("n",), None),), observer).path, ("n",))

@@ -62,23 +62,28 @@ class RunsTest(unittest.TestCase):
         library = library_of(("a", "<p>{= t}{= n}</p>", "{n: number, t: text}"), ("b", "x"))
         cache = Cache(library)
         self.assertEqual((cache.runs, repr(cache)), (0, "Cache(0 runs)"))
-        self.check(cache, library, ("a", {"n": 1, "t": "x"}, 1), ("a", {"t": "x", "n": 1}, 1), ("a", {"t": "y", "n": 1}, 2),
+        self.check(cache, library, ("a", {"n": 1, "t": "x"}, 1), ("a", {"t": "x", "n": 1}, 1), ("a",
+                {"t": "y", "n": 1}, 2),
                    ("b", {}, 3), ("b", {}, 3), ("a", {"n": 1, "t": "x"}, 3), ("a", {"n": 2, "t": "x"}, 4))
         self.assertEqual((cache.render(data={}, name="b"), cache.runs), ("x", 4))
 
     def test_used_templates(self):
-        library = library_of(("row", "<b>{= t}</b>", "{t: text}"), ("twice", "{use row t=t}{use row t=\"k\"}", "{t: text}"),
+        library = library_of(("row", "<b>{= t}</b>", "{t: text}"), ("twice", "{use row t=t}{use row t=\"k\"}",
+                "{t: text}"),
                 ("page", "{for x in l}{use twice t=x}{use row t=x}{end}", "{l: [text]}"))
         cache = Cache(library)
         self.check(cache, library, ("page", {"l": ()}, 1), ("page", {"l": ("a",)}, 5), ("page", {"l": ("a", "a")}, 6),
-                   ("page", {"l": ("k", "a")}, 8), ("row", {"t": "a"}, 8), ("row", {"t": "b"}, 9), ("twice", {"t": "b"}, 10),
+                   ("page", {"l": ("k", "a")}, 8), ("row", {"t": "a"}, 8), ("row", {"t": "b"}, 9), ("twice",
+                           {"t": "b"}, 10),
                    ("twice", {"t": "a"}, 10))
 
     def test_values_of_different_kinds(self):
         library = library_of(("d", "<data>{= v}</data>", "{v: number?}"), ("f", "<data>{= v}</data>", "{v: flag?}"),
-                ("t", "<data>{= v}</data>", "{v: text?}"), ("l", "<data>{= v}</data>", "{v: [{a: text?, b: [number]}]}"))
+                ("t", "<data>{= v}</data>", "{v: text?}"), ("l", "<data>{= v}</data>",
+                        "{v: [{a: text?, b: [number]}]}"))
         cache = Cache(library)
-        self.check(cache, library, ("d", {"v": 1}, 1), ("f", {"v": True}, 2), ("d", {"v": 0}, 3), ("f", {"v": False}, 4),
+        self.check(cache, library, ("d", {"v": 1}, 1), ("f", {"v": True}, 2), ("d", {"v": 0}, 3), ("f", {"v": False},
+                4),
                    ("t", {"v": ""}, 5), ("t", {"v": None}, 6), ("t", {"v": "null"}, 7), ("d", {"v": None}, 8),
                    ("f", {"v": None}, 9), ("d", {"v": 1}, 9), ("f", {"v": True}, 9), ("t", {"v": ""}, 9),
                    ("t", {"v": "\"\""}, 10), ("l", {"v": ()}, 11), ("l", {"v": ({"a": "", "b": ()},)}, 12),
@@ -104,7 +109,8 @@ class RunsTest(unittest.TestCase):
 
     def test_slots_in_loops(self):
         library = library_of(("row", "{= t}", "{t: text}"), ("list", "{for x in l}{slot}{end}", "{l: [text]}"),
-                ("page", "{wrap list l=l}{use row t=t}{wrap list l=l}{use row t=\"k\"}{end}{end}", "{l: [text], t: text}"))
+                ("page", "{wrap list l=l}{use row t=t}{wrap list l=l}{use row t=\"k\"}{end}{end}",
+                        "{l: [text], t: text}"))
         cache = Cache(library)
         self.check(cache, library, ("page", {"l": ("1", "2"), "t": "a"}, 6), ("page", {"l": ("1", "2"), "t": "a"}, 6),
                    ("page", {"l": ("1",), "t": "a"}, 9))

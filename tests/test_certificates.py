@@ -7,7 +7,8 @@ import unittest
 from shapekeep.certificates import (certify_accepted, certify_page, certify_patched, certify_place, certify_shape,
                                     templates_of)
 from shapekeep.checker import accepts
-from shapekeep.errors import (Busy, InvalidAction, InvalidText, MissingTemplate, NoSuchPath, NotALibrary, TooManyElements,
+from shapekeep.errors import (Busy, InvalidAction, InvalidText, MissingTemplate, NoSuchPath, NotALibrary,
+        TooManyElements,
                               TooManyEntries, Unfit)
 from shapekeep.library import Library
 from shapekeep.pages import Page, patched
@@ -51,7 +52,8 @@ class TemplatesTest(unittest.TestCase):
         library.remove("a")
         library.define("a", "{t: text}", "{= t}")
         self.assertEqual([name for name, _, _ in templates_of(library)], ["a", "b", "c"])
-        self.assertEqual(certify_accepted(library, "a"), (("accepted", templates_of(library), "a", ((0, "text"),)), None))
+        self.assertEqual(certify_accepted(library, "a"), (("accepted", templates_of(library), "a", ((0, "text"),)),
+                None))
 
     def test_no_libraries(self):
         for thing in (None, 1, True, "a", (), {}, [], Odd(), Same(), Library):
@@ -69,7 +71,8 @@ class LibraryClaimsTest(unittest.TestCase):
         self.assertEqual(certify_accepted(name="page", library=self.LIBRARY),
                          (("accepted", listed, "page", ((14, "text"),)), None))
         text = "<b>&lt;&lt;</b>"
-        self.assertEqual(certify_page(data=data, name="page", library=self.LIBRARY), (("page", listed, "page", data, text), (
+        self.assertEqual(certify_page(data=data, name="page", library=self.LIBRARY),
+                (("page", listed, "page", data, text), (
             ("<b>", "box", 0), ("&lt;", "page", 14), ("&lt;", "box", 9), ("</b>", "box", 14))))
         self.assertEqual(certify_shape(data=data, name="page", library=self.LIBRARY), (("shape", listed, "page", data, (
             ("element", "b", (), (("text", "<<"),)),)), None))
@@ -183,7 +186,8 @@ class PlaceTest(unittest.TestCase):
 
     def test_drawn_places(self):
         source = random.Random(2)
-        starts = ["", "<p>", "<p", "<p a", "<p h", "<p a=\"", "<a href=\"/", "<a href=\"/?", "<data>", "<data>[1,", "<data>{\"ab\":1,\"",
+        starts = ["", "<p>", "<p", "<p a", "<p h", "<p a=\"", "<a href=\"/", "<a href=\"/?", "<data>", "<data>[1,",
+                "<data>{\"ab\":1,\"",
                   "<data>[[{\"a\":[", DEEP, DEEP[3:] + "<", "<data>[" + "1," * 57, "<data>{\"yzz\":[1,{\"a\":1,\"yy"]
         texts = []
         for _ in range(300):

@@ -32,7 +32,8 @@ from tests.test_types import NO_WRITINGS as NO_TYPE_WRITINGS
 from tests.test_types import WRITINGS as TYPE_WRITINGS
 
 PACKAGE = Path(__file__).resolve().parent.parent / "shapekeep"
-ODD = [None, True, False, 0, 1, "", "accepted", (), ("accepted",), [], {}, {"a"}, Odd(), Same(), Bad(), str, b"accepted",
+ODD = [None, True, False, 0, 1, "", "accepted", (), ("accepted",), [], {}, {"a"}, Odd(), Same(), Bad(), str,
+        b"accepted",
        ((),), ("same place",), ("same place", "", "", ""), ["same place", "", ""], ("Same place", "", ""),
        (Same(), "", ""), (Bad(), "", ""), (None, "", ""), (["same place"], "", ""), (("same place",), "", ""),
        ({}, "", ""), (b"same place", "", ""), in_lists(12, ""), in_records(12, ""), ("place", "", ""), ("", "", "")]
@@ -104,7 +105,8 @@ class FormsTest(unittest.TestCase):
             for certificate in (None, "", (), Same(), Bad()):
                 self.assertIs(accepts(thing, certificate), False)
         for claim, certificate in self.CLAIMS:
-            for thing in (claim[:-1], claim + (None,), list(claim), (claim,), claim[1:], (claim[0].upper(),) + claim[1:],
+            for thing in (claim[:-1], claim + (None,), list(claim), (claim,), claim[1:], (claim[0].upper(),
+                    ) + claim[1:],
                     (claim[0] + " ",) + claim[1:], ("patched",) + claim[1:], ("same place",) + claim[1:]):
                 if thing != claim:
                     self.assertIs(accepts(thing, certificate), False)
@@ -117,7 +119,8 @@ class FormsTest(unittest.TestCase):
                 self.assertIs(accepts(claim, thing), False)
 
     def test_long_texts(self):
-        for sign in ("[", "{", "<", "(", "not(", "{if f}", "[[", "<a>", "\"", "&", "~", "}", "a", "{a: ", "<data>[", "{wrap u}"):
+        for sign in ("[", "{", "<", "(", "not(", "{if f}", "[[", "<a>", "\"", "&", "~", "}", "a", "{a: ", "<data>[",
+                "{wrap u}"):
             text = sign * 4000
             for claim, certificate in self.CLAIMS:
                 for at in range(1, len(claim)):
@@ -156,8 +159,10 @@ class TemplatesTest(unittest.TestCase):
         for body in [body for body, _, _ in BODIES] + ["{" + tag + "}" for tag in NO_TAGS] + ["{" + tag + "}x{end}"
                 for tag in NO_TAGS]:
             self.check((), "x", parameters, body)
-        for body in ("{if c}" * 7 + "{end}" * 7, "{if c}" * 8 + "{end}" * 8, "{if c}{else}{else}{end}", "{else}", "{end}",
-                "{if c}", "{let x = a}{else}{end}", "a}", "{", "a{= a", "{if c}{end}{end}", "{if c}{else}", "{(}{)}{**}"):
+        for body in ("{if c}" * 7 + "{end}" * 7, "{if c}" * 8 + "{end}" * 8, "{if c}{else}{else}{end}", "{else}",
+                "{end}",
+                "{if c}", "{let x = a}{else}{end}", "a}", "{", "a{= a", "{if c}{end}{end}", "{if c}{else}",
+                        "{(}{)}{**}"):
             self.check((), "x", parameters, body)
 
     def test_accepted_and_misplaced_bodies(self):
@@ -170,7 +175,8 @@ class TemplatesTest(unittest.TestCase):
     def test_tags_that_do_not_fit(self):
         templates = templates_of(test_define_errors.full_library())
         self.assertTrue(holds(("accepted", templates, "none", ()), None))
-        small = tuple(triple for triple in templates if triple[0] in ("none", "two", "frame", "slotted", "rows", "maybe", "inner"))
+        small = tuple(triple for triple in templates if triple[0] in ("none", "two", "frame", "slotted", "rows",
+                "maybe", "inner"))
         for body, _ in test_define_errors.NO_FIT:
             self.assertEqual(self.check(small, "x", test_define_errors.PARAMETERS, body), ())
 
@@ -189,7 +195,8 @@ class TemplatesTest(unittest.TestCase):
                 ("d", "", "{slot}" * 800), ("e", "", "{wrap a}{slot}{end}"))
         for body in ("{wrap a}" + "<b>" * 20 + "</b>" * 20 + "{end}", "{wrap a}" + "<b>" * 21 + "</b>" * 21 + "{end}",
                 "{wrap a}{wrap a}{wrap e}{end}{end}{end}", "{wrap a}{wrap a}{wrap e}<p></p>{end}{end}{end}",
-                "<b>" * 20 + "{use e}" + "</b>" * 20, "<b>" * 21 + "{use e}" + "</b>" * 21, "{use c}" * 5 + "{= 1}" * 495,
+                "<b>" * 20 + "{use e}" + "</b>" * 20, "<b>" * 21 + "{use e}" + "</b>" * 21,
+                        "{use c}" * 5 + "{= 1}" * 495,
                 "{use c}" * 5 + "{= 1}" * 496, "{wrap b}{wrap b}{wrap b}x{end}{end}{end}",
                 "{wrap b}{wrap b}{wrap b}xy{= 1}{end}{end}{end}", "{wrap d}" * 7 + "{end}" * 7, "{use d}",
                 "{wrap d}{wrap d}{end}{end}", "{wrap b}{wrap b}{wrap b}{use c}{end}{end}{end}"):
@@ -211,13 +218,15 @@ class TemplatesTest(unittest.TestCase):
     def test_orders(self):
         row, mid, page = ("row", "", "r"), ("mid", "", "{use row}{slot}"), ("page", "", "{wrap mid}x{end}")
         self.assertIs(accepts(("accepted", (row, mid, page), "page", ()), None), True)
-        for templates in ((mid, row, page), (row, page, mid), (page, mid, row), (row, page), (mid, page), (row, row), (row, mid, row),
+        for templates in ((mid, row, page), (row, page, mid), (page, mid, row), (row, page), (mid, page), (row, row),
+                (row, mid, row),
                 (row, mid, page, row), (row, mid, page, ("new", "", "<")), ((*row, ""),), (row[:2],), ([*row],)):
             for name in ("row", "mid", "page"):
                 self.assertIs(accepts(("accepted", templates, name, ()), None), False)
 
     def test_names_and_parameters(self):
-        for name in ("a", "abcdefghijkl", "true", "self", "abcdefghijklm", "", "A", "a1", None, 1, ("a",), Odd(), Same(), b"a"):
+        for name in ("a", "abcdefghijkl", "true", "self", "abcdefghijklm", "", "A", "a1", None, 1, ("a",), Odd(),
+                Same(), b"a"):
             good = isinstance(name, str) and name in ("a", "abcdefghijkl", "true", "self")
             self.assertIs(accepts(("accepted", ((name, "", ""),), name, ()), None), good)
             self.assertIs(accepts(("misplaced", (), name, "", "<", 1, "end"), None), good)
@@ -225,7 +234,8 @@ class TemplatesTest(unittest.TestCase):
         for writing, *_ in TYPE_WRITINGS:
             self.check((), "x", writing, "")
             self.check((), "x", "{a: " + writing + "}", "")
-        for writing in list(NO_TYPE_WRITINGS) + ["{true: text}", "{a: text, self: flag}", "-", "{a: {true: text}}", " "]:
+        for writing in list(NO_TYPE_WRITINGS) + ["{true: text}", "{a: text, self: flag}", "-", "{a: {true: text}}",
+                " "]:
             if isinstance(writing, str):
                 self.check((), "x", "{a: " + writing + "}", "")
                 self.check((), "x", writing, "")
@@ -247,7 +257,8 @@ class TemplatesTest(unittest.TestCase):
             self.check((), "x", "{a: text}", grower.spoilt(body))
 
     def test_spoilt_bodies(self):
-        words = ["{", "}", " ", "{end}", "{else}", "{if f}", "<", "</p>", "\"", "<p>", "{slot}", "{= t}", "&", "<data>", "a", "/"]
+        words = ["{", "}", " ", "{end}", "{else}", "{if f}", "<", "</p>", "\"", "<p>", "{slot}", "{= t}", "&",
+                "<data>", "a", "/"]
         seen = set()
         for seed in range(30):
             grower = LibraryGrower(random.Random(seed))
@@ -265,7 +276,8 @@ class TemplatesTest(unittest.TestCase):
 class PagesTest(unittest.TestCase):
     def check(self, library, name, data):
         templates = templates_of(library)
-        text, triples, tree = render(library, name, data), origins(library, name, data), render_tree(library, name, data)
+        text, triples, tree = render(library, name, data), origins(library, name, data), render_tree(library, name,
+                data)
         self.assertIs(accepts(("page", templates, name, data, text), triples), True)
         self.assertIs(accepts(("shape", templates, name, data, tree), None), True)
         self.assertIs(accepts(("page", templates, name, data, text + "x"), triples), False)
@@ -276,7 +288,8 @@ class PagesTest(unittest.TestCase):
                     ((piece, name + "x", position),), ((piece, called, True),), ([piece, called, position],),
                     ((piece + "x", called, position),)):
                 if others != ((piece, called, position),):
-                    self.assertIs(accepts(("page", templates, name, data, text), triples[:at] + others + triples[at + 1:]), False)
+                    self.assertIs(accepts(("page", templates, name, data, text),
+                            triples[:at] + others + triples[at + 1:]), False)
         self.assertIs(accepts(("page", templates, name, data, text), ((text, name, 0),)), triples == ((text, name, 0),))
 
     def test_pages_of_all_kinds(self):
@@ -341,9 +354,11 @@ class PagesTest(unittest.TestCase):
         for node in NO_NODES:
             if not (isinstance(node, tuple) and is_tree((node,))):
                 self.assertIs(accepts(("shape", (("a", "", "x"),), "a", {}, (node,)), None), False)
-                self.assertIs(accepts(("shape", (("a", "", "<p></p>"),), "a", {}, (("element", "p", (), (node,)),)), None), False)
+                self.assertIs(accepts(("shape", (("a", "", "<p></p>"),), "a", {}, (("element", "p", (), (node,)),)),
+                        None), False)
         for attribute in NO_ATTRIBUTES:
-            self.assertIs(accepts(("shape", (("a", "", "<p></p>"),), "a", {}, (("element", "p", (attribute,), ()),)), None), False)
+            self.assertIs(accepts(("shape", (("a", "", "<p></p>"),), "a", {}, (("element", "p", (attribute,), ()),)),
+                    None), False)
         for tree in ((("text", "a"), ("text", "b")), (("text", "ab"), ("text", "")), (("text", ""), ("text", "ab"))):
             self.assertIs(accepts(("shape", (("a", "", "ab"),), "a", {}, tree), None), False)
 
@@ -360,11 +375,14 @@ class PatchesTest(unittest.TestCase):
     def test_patches(self):
         for patches, new, good in (
                 ((), "abc", True), ((), "abd", False), (((0, 3, ""),), "", True), (((3, 3, "d"),), "abcd", True),
-                (((1, 1, "x"), (1, 1, "y")), "axybc", True), (((1, 1, ""),), "abc", False), (((0, 0, ""),), "abc", False),
+                (((1, 1, "x"), (1, 1, "y")), "axybc", True), (((1, 1, ""),), "abc", False), (((0, 0, ""),), "abc",
+                        False),
                 (((0, 1, "a"),), "abc", True), (((0, 4, ""),), "", False), (((-1, 0, ""),), "abc", False),
-                (((1, 0, ""),), "abc", False), (((0, 2, "x"), (1, 3, "y")), "xy", False), (((2, 3, ""), (0, 1, "")), "b", False),
+                (((1, 0, ""),), "abc", False), (((0, 2, "x"), (1, 3, "y")), "xy", False), (((2, 3, ""), (0, 1, "")),
+                        "b", False),
                 (((False, 1, ""),), "bc", False), (((0, True, ""),), "bc", False), (((0, 1, None),), "bc", False),
-                ([(0, 1, "")], "bc", False), (([0, 1, ""],), "bc", False), (((0, 1),), "bc", False), (None, "abc", False),
+                ([(0, 1, "")], "bc", False), (([0, 1, ""],), "bc", False), (((0, 1),), "bc", False), (None, "abc",
+                        False),
                 (((0, 1, "", ""),), "bc", False), (((0, 1, ""),), None, False), (((0, 1, b""),), "bc", False)):
             self.assertIs(accepts(("patched", "abc", new), patches), good, patches)
         for old in (None, 5, ("a",), b"abc", ["a"], Same()):
@@ -398,7 +416,8 @@ class PlacesTest(unittest.TestCase):
                 ("<p>", "<q>", "", False), ("<p>", "", "", True), ("", "<p>", "", True), ("<p>", "<p>", "</p>", False),
                 ("<p>", "<p>a", "</p>", False), ("<p>", "<p>a<b>", "</b></p>", True), ("<p>", "<p>a<b>", "</b>", False),
                 ("<p a", "<p h", "ref=\"\"></p>", True), ("<p a", "<p h", "=\"\"></p>", False),
-                ("<data>[1", "<data>[1,1", "]</data>", False), ("<data>[1", "<data>[1,1", ",0" * 59 + "]</data>", True)):
+                ("<data>[1", "<data>[1,1", "]</data>", False), ("<data>[1", "<data>[1,1", ",0" * 59 + "]</data>",
+                        True)):
             self.assertIs(accepts(("other place", one, other), word), good, (one, other, word))
             self.assertIs(accepts(("other place", other, one), word), good)
         for word in (None, 5, ("</p>",), ["</p>"], b"</p>", Odd(), Same(), Bad(), {}):
@@ -412,7 +431,8 @@ class PlacesTest(unittest.TestCase):
 
     def test_grown_texts(self):
         source = random.Random(3)
-        starts = ["", "<p>", "<p", "<p a=\"", "<a href=\"/", "<a href=\"/?b=", "<data>", "<data>[1,", "<data>{\"ab\":1,\"", "<a>" * 30]
+        starts = ["", "<p>", "<p", "<p a=\"", "<a href=\"/", "<a href=\"/?b=", "<data>", "<data>[1,",
+                "<data>{\"ab\":1,\"", "<a>" * 30]
         texts = []
         for _ in range(400):
             text = source.choice(starts)

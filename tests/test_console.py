@@ -31,11 +31,19 @@ class ResultsTest(unittest.TestCase):
             self.assertEqual(console.run(command), result, command)
 
     def test_libraries(self):
-        self.check(Console(), ("names", "-"), ("define b - ; x", "-"), ("define a {t: text} ; <p>{= t}</p>{= t}",
-                   "3:text 12:text"),
-                   ("names", "a b"), ("define c {t: text, u: [{a: number} by a]} ; <data>{= u}</data><p a=\"{= t}\"></p>",
-                   "6:data 24:attribute"), ("replace b {= 1}<p href=\"/{= 2}?a={= 3}\"></p>", "0:text 15:part 23:query"),
-                   ("replace b ", "-"), ("remove a", "b c"), ("names", "b c"), ("remove c", "b"), ("remove b", "-"),
+        self.check(Console(),
+                   ("names", "-"),
+                   ("define b - ; x", "-"),
+                   ("define a {t: text} ; <p>{= t}</p>{= t}", "3:text 12:text"),
+                   ("names", "a b"),
+                   ("define c {t: text, u: [{a: number} by a]} ; <data>{= u}</data><p a=\"{= t}\"></p>",
+                    "6:data 24:attribute"),
+                   ("replace b {= 1}<p href=\"/{= 2}?a={= 3}\"></p>", "0:text 15:part 23:query"),
+                   ("replace b ", "-"),
+                   ("remove a", "b c"),
+                   ("names", "b c"),
+                   ("remove c", "b"),
+                   ("remove b", "-"),
                    ("names", "-"))
 
     def test_bodies_are_all_that_follows(self):
@@ -45,21 +53,37 @@ class ResultsTest(unittest.TestCase):
                    ("replace a  - ; x", "-"), ("open a {}", " - ; x"), ("replace a \n", "-"), ("open a {}", "\n"))
 
     def test_pages(self):
-        self.check(Console(), ("define page {l: [text], n: text} ; <p>{= n}</p>{for x in l}<b>{= x}</b>{end}", "3:text 27:text"),
+        self.check(Console(),
+                   ("define page {l: [text], n: text} ; <p>{= n}</p>{for x in l}<b>{= x}</b>{end}", "3:text 27:text"),
                    ("open page {\"l\":[\"a\",\"b\"],\"n\":\"x y\"}", "<p>x y</p><b>a</b><b>b</b>"),
-                   ("evaluated", "page:3 page:12 page:27 page:27"), ("set n \"z\"", "3-6:z"), ("text", "<p>z</p><b>a</b><b>b</b>"),
-                   ("evaluated", "page:3"), ("set n \"z\"", "-"), ("evaluated", "-"), ("set l.1 \"&\"", "19-20:&amp;"),
-                   ("undo", "19-24:b"), ("evaluated", "page:27"), ("undo", "-"), ("set l []", "8-24:"), ("undo", "8-8:<b>a</b><b>b</b>"),
-                   ("undo", "3-4:x y"), ("text", "<p>x y</p><b>a</b><b>b</b>"))
+                   ("evaluated", "page:3 page:12 page:27 page:27"),
+                   ("set n \"z\"", "3-6:z"),
+                   ("text", "<p>z</p><b>a</b><b>b</b>"),
+                   ("evaluated", "page:3"),
+                   ("set n \"z\"", "-"),
+                   ("evaluated", "-"),
+                   ("set l.1 \"&\"", "19-20:&amp;"),
+                   ("undo", "19-24:b"),
+                   ("evaluated", "page:27"),
+                   ("undo", "-"),
+                   ("set l []", "8-24:"),
+                   ("undo", "8-8:<b>a</b><b>b</b>"),
+                   ("undo", "3-4:x y"),
+                   ("text", "<p>x y</p><b>a</b><b>b</b>"))
 
     def test_patches_on_lines_of_their_own(self):
         console = console_of("define a {t: text} ; {= t}<b>{= t}</b>", "open a {\"t\":\"x\"}")
-        self.check(console, ("set t \"y\\nz\"", "0-1:y\nz\n4-5:y\nz"), ("text", "y\nz<b>y\nz</b>"), ("undo", "0-3:x\n6-9:x"),
+        self.check(console,
+                   ("set t \"y\\nz\"", "0-1:y\nz\n4-5:y\nz"),
+                   ("text", "y\nz<b>y\nz</b>"),
+                   ("undo", "0-3:x\n6-9:x"),
                    ("set t \"\"", "0-1:\n4-5:"))
 
     def test_values(self):
-        console = console_of("define a {v: {b: [number?], f: flag, t: text}?} ; <data>{= v}</data>", "open a {\"v\":null}")
-        for literal in ("{\"b\":[],\"f\":true,\"t\":\"a b  \"}", "null", "{\"b\":[1,null,-20],\"f\":false,\"t\":\"\\l\\\"\\\\\\n\"}"):
+        console = console_of("define a {v: {b: [number?], f: flag, t: text}?} ; <data>{= v}</data>",
+                "open a {\"v\":null}")
+        for literal in ("{\"b\":[],\"f\":true,\"t\":\"a b  \"}", "null",
+                "{\"b\":[1,null,-20],\"f\":false,\"t\":\"\\l\\\"\\\\\\n\"}"):
             console.run("set v " + literal)
             self.assertEqual(console.run("text"), f"<data>{literal}</data>")
         console.run("set v.b.0 7")
@@ -67,7 +91,8 @@ class ResultsTest(unittest.TestCase):
         self.assertEqual(console.run("text"), "<data>{\"b\":[7,null,-20],\"f\":false,\"t\":\" ; \"}</data>")
 
     def test_a_page_goes_on_with_its_templates(self):
-        console = console_of("define u {t: text} ; ({= t})", "define page {t: text} ; {use u t=t}", "open page {\"t\":\"x\"}")
+        console = console_of("define u {t: text} ; ({= t})", "define page {t: text} ; {use u t=t}",
+                "open page {\"t\":\"x\"}")
         self.check(console, ("replace u [{= t}]", "1:text"), ("replace page new", "-"), ("text", "(x)"), ("set t \"y\"",
                    "1-2:y"), ("remove page", "u"), ("remove u", "-"), ("undo", "1-2:x"), ("text", "(x)"),
                    ("evaluated", "page:0 u:1"))
@@ -145,33 +170,43 @@ class InvalidCommandTest(unittest.TestCase):
         self.refused(None, True, 1, (), ("names",), ["names"], {}, b"names", Odd(), Console)
 
     def test_words_that_are_no_commands(self):
-        self.refused("", " ", "x", "Names", "NAMES", "name", "names\n", "\nnames", "defines a - ; x", "-", "close", "do",
+        self.refused("", " ", "x", "Names", "NAMES", "name", "names\n", "\nnames", "defines a - ; x", "-", "close",
+                "do",
                      "texts", "history", "move l 0 0", "define\ta - ; x")
 
     def test_words_that_are_missing(self):
-        self.refused("define", "define c", "define c -", "define c - ;", "define c -; x", "define c - ;x", "define c ; x",
+        self.refused("define", "define c", "define c -", "define c - ;", "define c -; x", "define c - ;x",
+                "define c ; x",
                      "replace", "replace a", "remove", "open", "open a", "set", "set n", "define c {n: number}")
 
     def test_words_that_are_empty(self):
-        self.refused(" names", "names ", " text", "text ", "undo ", "evaluated ", "  ", "remove ", "remove  a", "remove a ",
+        self.refused(" names", "names ", " text", "text ", "undo ", "evaluated ", "  ", "remove ", "remove  a",
+                "remove a ",
                      "define  c - ; x", " define c - ; x", "define  - ; x", "define c  ; x", "define ", "define c ",
-                     "replace  a x", "replace  x", "replace ", " replace a x", "open  a {}", "open  {}", "open ", "open b ",
-                     "set  n 1", "set n  1", "set  1", "set ", "set n ", " set n 1", "open b  {}", "set n 1 ", "open b {} ")
+                     "replace  a x", "replace  x", "replace ", " replace a x", "open  a {}", "open  {}", "open ",
+                             "open b ",
+                     "set  n 1", "set n  1", "set  1", "set ", "set n ", " set n 1", "open b  {}", "set n 1 ",
+                             "open b {} ")
 
     def test_words_too_many(self):
         self.refused("names a", "remove a b", "remove b c", "undo 1", "text a", "evaluated a", "names  ", "remove b -")
 
     def test_paths(self):
         self.refused("set . 1", "set n. 1", "set .n 1", "set l..0 \"a\"", "set N 1", "set l.00 \"a\"", "set l.01 \"a\"",
-                     "set l.-1 \"a\"", "set l.+1 \"a\"", "set l.1000000000000000 \"a\"", "set l.0x \"a\"", "set l.a1 \"a\"",
-                     "set abcdefghijklm 1", "set l,0 \"a\"", "set l.1_0 \"a\"", "set l\n 1", "set \n 1", "set l.0\n \"a\"",
+                     "set l.-1 \"a\"", "set l.+1 \"a\"", "set l.1000000000000000 \"a\"", "set l.0x \"a\"",
+                             "set l.a1 \"a\"",
+                     "set abcdefghijklm 1", "set l,0 \"a\"", "set l.1_0 \"a\"", "set l\n 1", "set \n 1",
+                             "set l.0\n \"a\"",
                      "set l.0123456789012345 \"a\"", "set () 1", "set n/ 1")
 
     def test_values(self):
-        self.refused("set n x", "set n 01", "set n -0", "set n 1.0", "set n +1", "set n True", "set n None", "set n 'a'",
+        self.refused("set n x", "set n 01", "set n -0", "set n 1.0", "set n +1", "set n True", "set n None",
+                "set n 'a'",
                      "set n \"a", "set n a\"", "set n [1", "set n [1,]", "set n [1, 2]", "set n {\"b\":1,\"a\":2}",
-                     "set n {\"a\":1,\"a\":2}", "set n {\"a\" :1}", "set n {a:1}", "set n \"<\"", "set n \"\\t\"", "set n \n1",
-                     "set n 1\n", "set n \"\n\"", "set n " + "[" * 7 + "]" * 7, "set n [" + "1," * 60 + "1]", "set n truex",
+                     "set n {\"a\":1,\"a\":2}", "set n {\"a\" :1}", "set n {a:1}", "set n \"<\"", "set n \"\\t\"",
+                             "set n \n1",
+                     "set n 1\n", "set n \"\n\"", "set n " + "[" * 7 + "]" * 7, "set n [" + "1," * 60 + "1]",
+                             "set n truex",
                      "open a x", "open b []x", "open b { }", "open nothing {", "open b ()", "set x.y.z x")
 
     def test_no_page(self):

@@ -39,7 +39,8 @@ BARRED_WORDS = set("""typing typing_extensions enum Enum IntEnum StrEnum Flag In
 BARRED_ATTRIBUTES = set("""items keys values pop update append clear extend insert remove reverse setdefault sort args
     encode decode hex fromhex format format_map mro as_integer_ratio bit_count conjugate from_bytes is_integer
     to_bytes real imag numerator denominator""".split())
-BARRED_NODES = (ast.AsyncFunctionDef, ast.AsyncFor, ast.AsyncWith, ast.Await, ast.Global, ast.Div, ast.Import, ast.MatMult)
+BARRED_NODES = (ast.AsyncFunctionDef, ast.AsyncFor, ast.AsyncWith, ast.Await, ast.Global, ast.Div, ast.Import,
+        ast.MatMult)
 
 
 def trees():

@@ -228,7 +228,8 @@ class EvaluatedTest(unittest.TestCase):
 
     def test_texts_that_repeat_themselves(self):
         page = self.page("{= t}", "{t: text}", {"t": "aaa"})
-        for text, patch in (("aaaaa", (3, 3, "aa")), ("aa", (2, 5, "")), ("abaaba", (1, 1, "baab")), ("aba", (3, 6, "")),
+        for text, patch in (("aaaaa", (3, 3, "aa")), ("aa", (2, 5, "")), ("abaaba", (1, 1, "baab")), ("aba",
+                (3, 6, "")),
                 ("", (0, 3, "")), ("x", (0, 0, "x"))):
             self.check(page, ("set", ("t",), text), ("{= t}",), (patch,), text)
 

@@ -37,7 +37,8 @@ class PatchedTest(unittest.TestCase):
 
     def test_texts_and_patches_are_not_modified(self):
         patches = ((0, 1, "b"), (1, 1, "c"))
-        self.assertEqual((patched("a", patches), patched("a", patches), patches), ("bc", "bc", ((0, 1, "b"), (1, 1, "c"))))
+        self.assertEqual((patched("a", patches), patched("a", patches), patches), ("bc", "bc",
+                ((0, 1, "b"), (1, 1, "c"))))
 
     def test_no_texts(self):
         for thing in NO_TEXTS:
@@ -52,7 +53,8 @@ class PatchedTest(unittest.TestCase):
         wrong = [None, True, 0, "", "abc", [], [0, 0, "x"], {}, Odd(), Same(), (), (0,), (0, 0), (0, 0, "x", "y"),
                  (0, 1), (True, 1, ""), (0, True, ""), (False, 1, ""), (0, False, "x"), (None, 0, "x"), (0, None, "x"),
                  ("0", 1, "x"), (0, "1", "x"), (0, 1, None), (0, 1, 5), (0, 1, b"x"), (0, 1, ("x",)), (0, 1, ["x"]),
-                 (-1, 0, "x"), (-1, 1, "x"), (0, -1, "x"), (1, 0, "x"), (0, 4, "x"), (4, 4, "x"), (3, 4, ""), (0, 0, ""),
+                 (-1, 0, "x"), (-1, 1, "x"), (0, -1, "x"), (1, 0, "x"), (0, 4, "x"), (4, 4, "x"), (3, 4, ""), (0, 0,
+                         ""),
                  (1, 1, ""), (3, 3, ""), (0, 10 ** 29, ""), (Same(), 0, "x"), (0, Same(), "x"), (0, 1, Same()),
                  (0, 1, Odd()), ((0,), 1, "x"), ([0], 1, "x"), (0, 0, "x", 0)]
         for thing in wrong:
@@ -61,7 +63,8 @@ class PatchedTest(unittest.TestCase):
             self.assertEqual(raised(InvalidPatches, patched, "abc", ((0, 0, "x"), thing, None)).index, 1)
 
     def test_patches_that_go_back(self):
-        for patches, index in ((((1, 2, "x"), (0, 1, "y")), 1), (((0, 2, ""), (1, 3, "")), 1), (((0, 3, ""), (2, 3, "")), 1),
+        for patches, index in ((((1, 2, "x"), (0, 1, "y")), 1), (((0, 2, ""), (1, 3, "")), 1),
+                (((0, 3, ""), (2, 3, "")), 1),
                 (((0, 1, ""), (1, 2, ""), (3, 3, "x"), (2, 3, "")), 3), (((3, 3, "x"), (2, 2, "y")), 1)):
             self.assertEqual(raised(InvalidPatches, patched, "abc", patches).index, index)
         self.assertEqual(raised(InvalidPatches, patched, "", ((0, 1, "x"),)).index, 0)

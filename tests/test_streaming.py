@@ -169,7 +169,8 @@ class PartsTest(unittest.TestCase):
         self.assertEqual((waits.parts, waits.fill("l", ())), ((0, 1), ((0, ("<b>q:A</b>",)), (1, ("<b>A:B</b>",)))))
 
     def test_parts_of_wraps_see_the_variables_of_their_place(self):
-        library = library_of(("box", "{let a = \"in\"}{slot}{= a}{end}"), ("mid", "{wrap box}{slot}{= a}{end}", "{a: text}"),
+        library = library_of(("box", "{let a = \"in\"}{slot}{= a}{end}"), ("mid", "{wrap box}{slot}{= a}{end}",
+                "{a: text}"),
                 ("page", "{wrap box}{= a}{end}{let b = \"B\"}{wrap mid a=b}{= b}{= a}{end}{end}", "{a: text}"))
         stream = Stream(library, "page", {}, "a")
         self.assertEqual(stream.parts, (0, "inB", 1, "Bin"))
@@ -242,7 +243,8 @@ class StreamErrorsTest(unittest.TestCase):
             self.assertIs(raised(NotLate, stream.fill, thing, 5).called, thing)
         for name, value, path in (("a", 1, ("a",)), ("a", None, ("a",)), ("a", Odd(), ("a",)), ("c", "x", ("c",)),
                 ("c", ({"id": 1}, {"id": 1}), ("c", 1)), ("c", ({"id": "x"},), ("c", 0, "id")), ("c", [], ("c",)),
-                ("c", ({"id": True},), ("c", 0, "id")), ("c", ({"id": 1, "x": 1},), ("c", 0)), ("c", ({},), ("c", 0, "id"))):
+                ("c", ({"id": True},), ("c", 0, "id")), ("c", ({"id": 1, "x": 1},), ("c", 0)), ("c", ({},),
+                        ("c", 0, "id"))):
             self.assertEqual(raised(Unfit, stream.fill, name, value).path, path)
         self.assertEqual((stream.parts, stream.waiting), ((0, "5", 1), ("a", "c")))
         self.assertEqual(stream.fill("c", ({"id": 1}, {"id": 2})), ((1, ("12",)),))

@@ -96,7 +96,8 @@ class OneMeaningTest(unittest.TestCase):
         self.assertEqual(page, Page(library, name, page.data))
         data, text, evaluated, history = page.data, page.text, page.evaluated, page.history()
         with self.assertRaises(NoSuchPath):
-            page.do_all((("set", sorted(data)[:1] and (sorted(data)[0],), data[sorted(data)[0]]), ("delete", ("none",), 0)))
+            page.do_all((("set", sorted(data)[:1] and (sorted(data)[0],), data[sorted(data)[0]]), ("delete", ("none",),
+                    0)))
         self.assertEqual((page.data, page.text, page.evaluated, page.history()), (data, text, evaluated, history))
         while page.history():
             page.undo()
@@ -131,7 +132,8 @@ class JustTheWorkThatIsNeededTest(unittest.TestCase):
         rows = tuple({"n": at, "m": tuple(range(at % 5)), "t": str(at * at)} for at in range(60))
         page = Page(library, "page", {"l": rows, "s": "-"})
         for path, value, many in ((("l", 30, "t"), "x", 2), (("l", 34, "m", 2), 77, 1), (("l", 34, "m"), (0, 1), 1),
-                (("s",), "+", 60), (("l", 5), {"n": 5, "m": (), "t": "25"}, 0), (("l", 6), {"n": 6, "m": (5,), "t": "36"}, 1)):
+                (("s",), "+", 60), (("l", 5), {"n": 5, "m": (), "t": "25"}, 0), (("l", 6),
+                        {"n": 6, "m": (5,), "t": "36"}, 1)):
             page.change(path, value)
             self.assertEqual(len(page.evaluated), many, path)
         page.move(("l",), 59, 0)
