@@ -25,7 +25,8 @@ class Stream:
         template = template_in(library, name)
         fields = dict(fields_of(template.parameters))
         _check_late(late, fields)
-        check_fit(_type_of([called for called in fields if called not in late], fields), data)
+        others = tuple([(called, part) for called, part in fields.items() if called not in late])
+        check_fit(Type("record", fields=others), data)
         self._late = {called: fields[called] for called in late}
         self._filler = Filler(library.snapshot())
         self._content = self._filler.begin(Scene(template, data))
@@ -77,8 +78,3 @@ def _check_late(late, fields):
             raise NotLate(called)
         if len([other for other in late if isinstance(other, str) and other == called]) > 1:
             raise NotLate(called)
-
-
-def _type_of(names, fields):
-    """Returns the record type of the fields of these names, or None if there are none."""
-    return Type("record", fields=tuple([(name, fields[name]) for name in names])) if names else None

@@ -147,8 +147,11 @@ class TemplatesTest(unittest.TestCase):
         except Exception:
             reason = ()
         triple = (name, parameters, body)
-        self.assertIs(accepts(("accepted", templates + (triple,), name, () if reason is not None else contexts), None),
-                reason is None, triple)
+        if reason is None:
+            self.assertIs(accepts(("accepted", templates + (triple,), name, contexts), None), True, triple)
+        # Whether the template is taken shows by what is claimed of another one behind it.
+        self.assertIs(accepts(("accepted", templates + (triple, ("behind", "", "")), "behind", ()), None),
+                reason is None and len(templates) < 39, triple)
         for position, word in {reason or (0, "markup"), (0, "hole"), (len(body), "end")}:
             self.assertIs(accepts(("misplaced", templates, name, parameters, body, position, word), None),
                     reason == (position, word), triple)
@@ -361,6 +364,27 @@ class PagesTest(unittest.TestCase):
                     None), False)
         for tree in ((("text", "a"), ("text", "b")), (("text", "ab"), ("text", "")), (("text", ""), ("text", "ab"))):
             self.assertIs(accepts(("shape", (("a", "", "ab"),), "a", {}, tree), None), False)
+
+    def test_numbers_are_no_texts(self):
+        def element(*attributes):
+            return ("element", "p", attributes, ())
+
+        for body, tree, other in (
+                ("5", (("text", "5"),), (("text", 5),)), ("True", (("text", "True"),), (("text", True),)),
+                ("<p a=\"5\"></p>", (element(("a", "5")),), (element(("a", 5)),)),
+                ("<p href=\"/5\"></p>", (element(("href", (("5",), ()))),), (element(("href", ((5,), ()))),)),
+                ("<p href=\"/5\"></p>", (element(("href", (("5",), ()))),), (element(("href", ("5", ()))),)),
+                ("<p href=\"/5?a=6\"></p>", (element(("href", (("5",), (("a", "6"),)))),),
+                 (element(("href", (("5",), (("a", 6),)))),)),
+                ("<data>\"5\"</data>", (("data", "5"),), (("data", 5),)), ("<data>5</data>", (("data", 5),), (("data", "5"),)),
+                ("<data>null</data>", (("data", None),), (("data", "null"),)),
+                ("<data>1</data>", (("data", 1),), (("data", True),)),
+                ("<data>true</data>", (("data", True),), (("data", 1),)),
+                ("<data>[1]</data>", (("data", (1,)),), (("data", [1]),)),
+                ("<data>[1,2]</data>", (("data", (1, 2)),), (("data", ((1, 2),)),))):
+            templates = (("x", "", body),)
+            self.assertIs(accepts(("shape", templates, "x", {}, tree), None), True)
+            self.assertIs(accepts(("shape", templates, "x", {}, other), None), False)
 
     def test_grown_trees(self):
         grower = Grower(random.Random(5))

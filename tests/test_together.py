@@ -2,6 +2,7 @@
 
 import random
 import unittest
+from unittest.mock import patch
 
 from shapekeep.caching import Cache
 from shapekeep.certificates import certify_accepted, certify_page, certify_patched, certify_place, certify_shape
@@ -9,6 +10,7 @@ from shapekeep.checker import accepts
 from shapekeep.console import Console
 from shapekeep.errors import InUse, NoSuchPath, Ring, TooManyElements, Unfit
 from shapekeep.escaping import escape
+from shapekeep.expressions import Expression
 from shapekeep.machine import assemble
 from shapekeep.markup import parse
 from shapekeep.pages import Page, patched
@@ -17,7 +19,7 @@ from shapekeep.rendering import origins, render, render_tree
 from shapekeep.streaming import Stream, chunks
 from tests.acting import Change, drawn_action
 from tests.runs import Run
-from tests.second import Rendering
+from tests.second import PAIR, Rendering
 from tests.templates import LibraryGrower
 from tests.test_library import library_of
 
@@ -125,6 +127,29 @@ class OneMeaningTest(unittest.TestCase):
 
 
 class JustTheWorkThatIsNeededTest(unittest.TestCase):
+    def test_expressions_that_are_computed(self):
+        for seed in range(15):
+            grower = LibraryGrower(random.Random(seed))
+            library = grower.grow(5)
+            for name in library.names:
+                page = Page(library, name, grower.data(name))
+                for _ in range(4 if library[name].parameters else 0):
+                    action = drawn_action(grower, library[name].parameters, page.data)
+                    with patch.object(Expression, "__call__", autospec=True, side_effect=Expression.__call__) as called:
+                        try:
+                            page.do(action)
+                        except (NoSuchPath, Unfit):
+                            continue
+                    self.assertEqual(len(called.mock_calls), self.expressions(library, page.evaluated))
+
+    def expressions(self, library, evaluated):
+        """Returns how many expressions the tags have that are evaluated."""
+        many = 0
+        for name, index in evaluated:
+            content = library[name].body[index + 1:].partition("}")[0]
+            many += len(PAIR.findall(content)) if content.startswith(("use", "wrap")) else 1
+        return many
+
     def test_long_lists(self):
         library = library_of(("row", "<b id=\"{= t}\">{= n}</b>{slot}", "{n: number, t: text}"), ("page",
                 "{for x in l}{wrap row n=x.n t=x.t}{= s}{for y in x.m}{= y}{end}{end}{end}",
