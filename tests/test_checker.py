@@ -13,7 +13,7 @@ from shapekeep.library import Library
 from shapekeep.markup import is_tree
 from shapekeep.rendering import origins, render, render_tree
 from shapekeep.types import Type
-from tests import test_define_errors, test_misplaced
+from tests import test_define_errors, test_misplaced, test_sizes
 from tests.claims import Bad, Odd, Same, changed, holds, library_from
 from tests.growing import Grower, spoilt
 from tests.support import in_lists, in_records, unchanged
@@ -158,11 +158,14 @@ class TemplatesTest(unittest.TestCase):
         return reason
 
     def test_bodies(self):
-        parameters = "{a: text, b: number, c: flag}"
+        parameters = "{a: text, b: number, c: flag, d: [text]?, e: [text]}"
         for body in [body for body, _, _ in BODIES] + ["{" + tag + "}" for tag in NO_TAGS] + ["{" + tag + "}x{end}"
                 for tag in NO_TAGS]:
             self.check((), "x", parameters, body)
-        for body in ("{if c}" * 7 + "{end}" * 7, "{if c}" * 8 + "{end}" * 8, "{if c}{else}{else}{end}", "{else}",
+        for body in ("{if c}{else}" * 7 + "{end}" * 7, "{if c}{else}" * 8 + "{end}" * 8,
+                "{for x in or_else(d, e)}{end}",
+                "{for x in e}{end}", "{if c}" * 7 + "{end}" * 7, "{if c}" * 8 + "{end}" * 8, "{if c}{else}{else}{end}",
+                        "{else}",
                 "{end}",
                 "{if c}", "{let x = a}{else}{end}", "a}", "{", "a{= a", "{if c}{end}{end}", "{if c}{else}",
                         "{(}{)}{**}"):
@@ -209,6 +212,23 @@ class TemplatesTest(unittest.TestCase):
             tower.append(("t" + other, "", "{if true}" * 7 + "{use t" + one + "}" + "{end}" * 7))
             self.check(tuple(tower), "x", "", "{if true}{if true}{use t" + other + "}{end}{end}")
 
+    def test_depths_of_slots(self):
+        templates = templates_of(test_sizes.PlansTest().tower())
+        for body in ("{use si}", "{wrap si}{use te}{end}", "{wrap si}{if true}{use te}{end}{end}",
+                "{wrap si}{wrap si}{end}{end}",
+                "{wrap sc}" * 5 + "{use sb}" + "{end}" * 5, "{wrap sc}" * 5 + "{wrap sb}{end}" + "{end}" * 5,
+                "{wrap sc}" * 5 + "{wrap sb}x{end}" + "{end}" * 5, "{wrap sa}{use tm}{end}",
+                        "{use sa}{if true}{use tm}{end}",
+                "{wrap sa}{if true}{use tm}{end}{end}", "{wrap sa}{wrap sa}{use tl}{end}{end}"):
+            self.check(templates, "x", "", body)
+
+    def test_levels_of_all_kinds_of_tags(self):
+        templates = (("hole", "", "{= 1}{if true}{= 2}{end}{let x = 1}{end}{slot}"), ("box", "", "<b>{slot}</b>"))
+        for many in (28, 29, 30):
+            for inner in ("{use hole}", "{wrap hole}{= 1}{end}", "{wrap hole}<p>{= 1}</p>{end}", "{use box}",
+                    "{wrap box}{use hole}{end}", "{wrap box}{wrap box}{end}{end}", "{wrap box}<p>{slot}</p>{end}"):
+                self.check(templates, "x", "", "<a>" * many + inner + "</a>" * many)
+
     def test_numbers_of_templates(self):
         names = [one + other for one in "abcdefgh" for other in "abcdef"]
         forty = tuple((name, "", "x") for name in names[:40])
@@ -249,7 +269,12 @@ class TemplatesTest(unittest.TestCase):
         parameters = "{" + ", ".join(f"{name}: {SCOPE[name][0]}" for name in sorted(SCOPE)) + "}"
         for written, *_ in TYPED + NO_TYPES + WRITINGS:
             self.check((), "x", parameters, "<data>{= " + written + "}</data>")
-        for written in NO_WRITINGS:
+        many = ["not(f, f)", "size(l, l)", "has(ot, ot)", "equal(n, n, n)", "less(n, n, n)", "both(f)",
+                "either(f, f, f)", "sum()",
+                "joined()", "or_else(ot)", "or_else(ot, t, t)", "less(n)", "equal(t)", "sum(n)", "joined(t)",
+                "not(" * 7 + "f" + ")" * 7, "not(" * 8 + "f" + ")" * 8, "\"" + "x" * 60 + "\"", "\"" + "x" * 61 + "\"",
+                "9" * 15, "9" * 16, "-" + "9" * 15, "-" + "9" * 16, "007", "-0", "0", "-5"]
+        for written in NO_WRITINGS + many:
             self.check((), "x", parameters, "<data>{= " + written + "}</data>")
 
     def test_grown_bodies(self):
@@ -349,6 +374,17 @@ class PagesTest(unittest.TestCase):
                 self.check(library, "a", data)
             library.remove("a")
 
+    def test_values_of_functions(self):
+        for written in ("either(false, true)", "either(true, false)", "either(false, false)", "both(true, false)",
+                "both(false, true)", "both(true, true)", "not(true)", "not(false)", "equal(1, 2)",
+                        "equal(\"a\", \"a\")",
+                "equal(true, false)", "less(1, 2)", "less(2, 1)", "less(1, 1)", "sum(1, 2, -4)",
+                        "joined(1, \"-\", \"x\", -2)",
+                "size(l)", "has(o)", "has(q)", "or_else(o, \"y\")", "or_else(q, \"y\")"):
+            library = Library()
+            library.define("a", "{l: [text], o: text?, q: text?}", "<data>{= " + written + "}</data>")
+            self.check(library, "a", {"l": ("", ""), "o": None, "q": ""})
+
     def test_trees(self):
         for tree, text in PAGES:
             body = text.replace("{", "{(").replace("}", "{)}").replace("{(", "{(}")
@@ -376,7 +412,8 @@ class PagesTest(unittest.TestCase):
                 ("<p href=\"/5\"></p>", (element(("href", (("5",), ()))),), (element(("href", ("5", ()))),)),
                 ("<p href=\"/5?a=6\"></p>", (element(("href", (("5",), (("a", "6"),)))),),
                  (element(("href", (("5",), (("a", 6),)))),)),
-                ("<data>\"5\"</data>", (("data", "5"),), (("data", 5),)), ("<data>5</data>", (("data", 5),), (("data", "5"),)),
+                ("<data>\"5\"</data>", (("data", "5"),), (("data", 5),)), ("<data>5</data>", (("data", 5),),
+                        (("data", "5"),)),
                 ("<data>null</data>", (("data", None),), (("data", "null"),)),
                 ("<data>1</data>", (("data", 1),), (("data", True),)),
                 ("<data>true</data>", (("data", True),), (("data", 1),)),
