@@ -17,6 +17,7 @@ from shapekeep.pages import Page, patched
 from shapekeep.plans import PASSES, optimize, plan_of
 from shapekeep.rendering import origins, render, render_tree
 from shapekeep.streaming import Stream, chunks
+from tests import test_sizes
 from tests.acting import Change, drawn_action
 from tests.runs import Run
 from tests.second import PAIR, Rendering
@@ -49,6 +50,16 @@ class OneMeaningTest(unittest.TestCase):
                 certify_shape(library, name, data)):
             self.assertIs(accepts(claim, certificate), True)
         return text
+
+    def test_the_deepest_plans(self):
+        library = test_sizes.PlansTest().tower()
+        library.define("y", "{t: text}", "{wrap sc}" * 5 + "{use sb}{= t}" + "{end}" * 5)
+        library.define("z", "{t: text}", "{if true}" * 2 + "{wrap sa}{use tl}{end}{= t}" + "{end}" * 2)
+        for name in "yz":
+            self.check(library, name, {"t": "<"}, random.Random(1), Cache(library))
+            page = Page(library, name, {"t": ""})
+            page.change(("t",), "x")
+            self.assertEqual(page.text, render(library, name, {"t": "x"}))
 
     def test_drawn_libraries(self):
         for seed in range(25):
