@@ -48,17 +48,16 @@ class Run:
             seen = marks_of(found[0], scene.template.loop_keys[piece.at])
         known = before is not None and agree(before.seen, seen)
         entry = Entry(seen, _worth_again(piece, before, found) if known else worth_of(piece, scene), self.length)
-        if known or not piece.expressions:
-            self.write(piece, scene, before, entry)
-            return entry
-        self.done.append((scene.template.name, piece.at))
-        if self.within:
-            self.write(piece, scene, before, entry)
-            return entry
-        self.within = True
+        is_done = not known and len(piece.expressions) > 0
+        is_outermost = is_done and not self.within
+        if is_done:
+            self.done.append((scene.template.name, piece.at))
+        if is_outermost:
+            self.within = True
+            self.outermost.append((before, entry))
         self.write(piece, scene, before, entry)
-        self.within = False
-        self.outermost.append((before, entry))
+        if is_outermost:
+            self.within = False
         return entry
 
     def write(self, piece, scene, before, entry):
